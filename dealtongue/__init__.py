@@ -1,0 +1,1 @@
+"""Dealtongue: a language of agreements."""

@@ -1,0 +1,54 @@
+"""The rules of the language that can be seen at a glance, and where the interface's names stand."""
+
+import ast
+import importlib
+import pathlib
+import unittest
+
+PACKAGE = pathlib.Path(__file__).resolve().parent.parent / "dealtongue"
+FILES = sorted(PACKAGE.glob("*.py"))
+INTERFACE = {
+    "days": ("is_rest", "is_span", "is_work", "after", "work_between"),
+    "agreements": ("is_agreement", "first_wrong"),
+}
+
+
+def imported_by(path):
+    """The modules from which a file of the package imports."""
+    tree = ast.parse(path.read_text())
+    return [node.module for node in ast.walk(tree) if isinstance(node, ast.ImportFrom)]
+
+
+class Rules(unittest.TestCase):
+    def test_the_folder_holds_python_files_alone(self):
+        names = [path.name for path in PACKAGE.iterdir() if path.name != "__pycache__"]
+        self.assertEqual(sorted(names), [path.name for path in FILES])
+        self.assertIn("__init__.py", names)
+
+    def test_sizes_and_characters(self):
+        for path in FILES:
+            text = path.read_text()
+            with self.subTest(path.name):
+                self.assertTrue(all(sign == "\n" or " " <= sign <= "~" for sign in text))
+                self.assertLessEqual(len(text.splitlines()), 399)
+                self.assertLessEqual(max(map(len, text.splitlines())), 120)
+                for node in ast.walk(ast.parse(text)):
+                    if isinstance(node, ast.FunctionDef):
+                        self.assertLessEqual(node.end_lineno - node.lineno + 1, 40, node.name)
+
+    def test_imports_are_from_the_package_and_in_no_ring(self):
+        above = {f"dealtongue.{path.stem}": imported_by(path) for path in FILES}
+        while above:
+            free = [name for name, modules in above.items() if not set(modules) & set(above)]
+            self.assertTrue(free, above)
+            for name in free:
+                self.assertTrue(all(module.startswith("dealtongue.") for module in above.pop(name)))
+        for path in FILES:
+            self.assertFalse([node for node in ast.walk(ast.parse(path.read_text())) if isinstance(node, ast.Import)])
+
+    def test_the_interface_stands_where_it_is_listed(self):
+        for file, names in INTERFACE.items():
+            module = importlib.import_module(f"dealtongue.{file}")
+            for name in names:
+                with self.subTest(name):
+                    self.assertEqual(getattr(module, name).__module__, f"dealtongue.{file}")
