@@ -54,3 +54,16 @@ def named_by_condition(condition):
         for part in condition[1:]:
             found.extend(named_by_condition(part))
     return found
+
+
+def days_in_condition(condition):
+    """Lists the days that a condition, or None, names."""
+    if condition is None:
+        return []
+    if condition[0] == "before":
+        return [condition[1]]
+    found = []
+    if condition[0] in ("not", "all", "any"):
+        for part in condition[1:]:
+            found.extend(days_in_condition(part))
+    return found

@@ -2,6 +2,7 @@
 
 import ast
 import importlib
+import inspect
 import pathlib
 import unittest
 
@@ -10,6 +11,21 @@ FILES = sorted(PACKAGE.glob("*.py"))
 INTERFACE = {
     "days": ("is_rest", "is_span", "is_work", "after", "work_between"),
     "agreements": ("is_agreement", "first_wrong"),
+    "texts": ("show_agreement", "show_condition", "read_agreement", "read_condition"),
+    "letters": ("is_letter", "are_letters"),
+    "reckoner": ("State", "reckoned"),
+    "quicker": ("quick", "quick_on", "turnings"),
+}
+METHODS = {
+    ("reckoner", "State"): ("things", "broken", "fees", "owed", "may", "had", "put_by", "holds", "__eq__"),
+}
+PARAMETERS = {
+    ("texts", "show_agreement"): ["agreement"], ("texts", "show_condition"): ["condition"],
+    ("texts", "read_agreement"): ["text"], ("texts", "read_condition"): ["text"],
+    ("letters", "is_letter"): ["thing"], ("letters", "are_letters"): ["thing"],
+    ("reckoner", "reckoned"): ["agreement", "letters", "day"], ("quicker", "quick"): ["agreement", "letters", "day"],
+    ("quicker", "quick_on"): ["agreement", "letters", "state", "day"],
+    ("quicker", "turnings"): ["agreement", "letters", "day"],
 }
 
 
@@ -52,3 +68,14 @@ class Rules(unittest.TestCase):
             for name in names:
                 with self.subTest(name):
                     self.assertEqual(getattr(module, name).__module__, f"dealtongue.{file}")
+
+    def test_methods_stand_in_the_body_of_their_class(self):
+        for (file, name), methods in METHODS.items():
+            found = getattr(importlib.import_module(f"dealtongue.{file}"), name)
+            for method in methods:
+                self.assertIn(method, vars(found))
+
+    def test_parameters(self):
+        for (file, name), parameters in PARAMETERS.items():
+            function = getattr(importlib.import_module(f"dealtongue.{file}"), name)
+            self.assertEqual(list(inspect.signature(function).parameters), parameters)

@@ -1,0 +1,18 @@
+"""Refusals that many functions have in common."""
+
+from dealtongue.agreements import first_wrong
+from dealtongue.errors import NoAgreement, NoLetters
+from dealtongue.letters import are_letters
+
+
+def refuse_no_agreement(thing):
+    """Refuses what is no agreement."""
+    place = first_wrong(thing)
+    if place is not None:
+        raise NoAgreement(place)
+
+
+def refuse_no_letters(thing):
+    """Refuses what is no list of letters."""
+    if not are_letters(thing):
+        raise NoLetters("a list of letters is wanted")
