@@ -23,10 +23,9 @@ def lead_coins(deal, standing, pair, coins):
     debts = debts_of(deal, standing, pair)
     for debt in debts:
         used = min(coins, debt.left)
-        if used > 0:
-            standing.pay(debt, used)
-            coins -= used
-    standing.put_by(pair, coins)
+        standing.pay(debt, used)
+        coins -= used
+    standing.keep(pair, coins)
     return [debt for debt in debts if isinstance(debt, Thing) and debt.how == DONE]
 
 

@@ -4,23 +4,20 @@ A day is busy where more may happen on it than that fees grow for what is late.
 """
 
 from dealtongue.conditions import days_in_condition
-from dealtongue.days import refuse_no_day
 from dealtongue.deals import Deal
 from dealtongue.errors import NoDay
 from dealtongue.letters import letters_by_day
 from dealtongue.payments import debts_of, grow_fees, late_things
 from dealtongue.phases import MOST_PENDING, run_day
 from dealtongue.reckoner import State, fresh_standing
-from dealtongue.refusals import refuse_no_agreement, refuse_no_letters
+from dealtongue.refusals import refuse_to_reckon
 from dealtongue.standings import LATE, OPEN
 from dealtongue.truths import words_that_may
 
 
 def quick(agreement, letters, day):
     """Tells the State behind the evening of a day."""
-    refuse_no_agreement(agreement)
-    refuse_no_letters(letters)
-    refuse_no_day(day)
+    refuse_to_reckon(agreement, letters, day)
     deal = Deal(agreement)
     standing = fresh_standing(deal)
     run_on(deal, standing, letters, -1, day)
@@ -29,9 +26,7 @@ def quick(agreement, letters, day):
 
 def quick_on(agreement, letters, state, day):
     """Tells the State behind the evening of a day, from the State of an earlier one on."""
-    refuse_no_agreement(agreement)
-    refuse_no_letters(letters)
-    refuse_no_day(day)
+    refuse_to_reckon(agreement, letters, day)
     if day <= state.day:
         raise NoDay("a later day is wanted")
     deal = Deal(agreement)
@@ -42,9 +37,7 @@ def quick_on(agreement, letters, state, day):
 
 def turnings(agreement, letters, day):
     """Lists the days behind which, but for the day itself, something is told otherwise than behind the one ahead."""
-    refuse_no_agreement(agreement)
-    refuse_no_letters(letters)
-    refuse_no_day(day)
+    refuse_to_reckon(agreement, letters, day)
     deal = Deal(agreement)
     return run_on(deal, fresh_standing(deal), letters, -1, day)
 

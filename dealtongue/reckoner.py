@@ -2,12 +2,11 @@
 
 from dealtongue.agreements import are_there
 from dealtongue.conditions import is_condition, named_by_condition
-from dealtongue.days import refuse_no_day
 from dealtongue.deals import Deal
 from dealtongue.errors import NoCondition
 from dealtongue.letters import letters_by_day
 from dealtongue.phases import run_day
-from dealtongue.refusals import refuse_no_agreement, refuse_no_letters
+from dealtongue.refusals import refuse_to_reckon
 from dealtongue.standings import Standing
 from dealtongue.truths import is_so, words_that_may
 
@@ -101,9 +100,7 @@ class State:
 
 def reckoned(agreement, letters, day):
     """Tells the State behind the evening of a day."""
-    refuse_no_agreement(agreement)
-    refuse_no_letters(letters)
-    refuse_no_day(day)
+    refuse_to_reckon(agreement, letters, day)
     deal = Deal(agreement)
     standing = fresh_standing(deal)
     by_day = letters_by_day(letters)

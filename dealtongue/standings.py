@@ -69,12 +69,12 @@ class Standing:
         other.day = self.day
         other.ended = self.ended
         other.heard = dict(self.heard)
-        for duty in self.all_things:
+        for duty in list(self.all_things):
             things = [thing.copied() for thing in self.all_things[duty]]
             other.all_things[duty] = things
             other.pending[duty] = [thing for thing in things if thing.how in (OPEN, LATE)]
         other.breached = dict(self.breached)
-        for fee in self.growths:
+        for fee in list(self.growths):
             growths = [growth.copied() for growth in list(self.growths[fee].values())]
             other.growths[fee] = {growth.number: growth for growth in growths}
             other.unpaid[fee] = {growth.number: growth for growth in growths if growth.left > 0}
@@ -125,14 +125,14 @@ class Standing:
             else:
                 del self.unpaid[debt.fee][debt.number]
 
-    def put_by(self, pair, coins):
-        """Puts coins by for two, on top of what is put by for them."""
+    def keep(self, pair, coins):
+        """Puts coins by for a pair, on top of what is put by for them."""
         if coins > 0:
             self.purses[pair] = self.purses.get(pair, 0) + coins
             self.turned = True
 
     def take_out(self, pair):
-        """Takes out all that is put by for two, and tells how many coins these are."""
+        """Takes out all that is put by for a pair, and tells how many coins these are."""
         coins = self.purses[pair]
         del self.purses[pair]
         return coins

@@ -17,8 +17,8 @@ class Triggers(Reckons):
         self.things(deal(GIVE + "day 3000"), [], 3000, ("give", 1, 3000, 3002, "open", 3000, 0))
 
     def test_every(self):
-        whole = deal("duty give : ann must send ask to bob within 1 days after every 3 from 2", "free spare : give after "
-                     "every 1 from 0")
+        whole = deal("duty give : ann must send ask to bob within 1 days after every 3 from 2",
+                     "free spare : give after every 1 from 0")
         self.things(whole, [], 1)
         self.things(whole, [], 2, ("give", 1, 2, 3, "open", 2, 0))
         self.things(whole, [], 11, ("give", 1, 2, 3, "freed", 3, 0), ("give", 2, 5, 6, "freed", 6, 0),
@@ -27,8 +27,8 @@ class Triggers(Reckons):
             (0, 60, [0, 60, 120]), (7, 60, [7, 67, 127]), (59, 60, [59, 119]), (0, 1, list(range(131))),
             (130, 1, [130]), (131, 1, []), (60, 59, [60, 119]), (3000, 1, []), (4, 7, list(range(4, 131, 7))),
         ):
-            whole = deal(GIVE + f"every {step} from {first}", "free spare : give after done give", "free more : give "
-                         "after every 1 from 0")
+            whole = deal(GIVE + f"every {step} from {first}", "free spare : give after done give",
+                         "free more : give after every 1 from 0")
             self.assertEqual([thing[2] for thing in self.state(whole, [], 130).things()], days)
         self.things(deal(GIVE + "every 60 from 3000"), [], 3000, ("give", 1, 3000, 3002, "open", 3000, 0))
         self.things(deal(GIVE + "every 60 from 2939"), [], 3000, ("give", 1, 2939, 2941, "late", 2941, 0),
@@ -39,7 +39,8 @@ class Triggers(Reckons):
         self.things(whole, said("4 note"), 3)
         self.things(whole, said("4 note"), 4, ("give", 1, 4, 6, "open", 4, 0))
         self.things(whole, said("4 ask", "4.2 cash 1", "4.3 back 1"), 9)
-        self.things(whole, said("4.2 note", "4.1 note"), 4, ("give", 1, 4, 6, "open", 4, 0), ("give", 2, 4, 6, "open", 4, 0))
+        self.things(whole, said("4.2 note", "4.1 note"), 4, ("give", 1, 4, 6, "open", 4, 0),
+                    ("give", 2, 4, 6, "open", 4, 0))
         self.things(whole, said("3000 note"), 3000, ("give", 1, 3000, 3002, "open", 3000, 0))
         self.things(deal(GIVE + "letter cash"), said("4 cash 3"), 4, ("give", 1, 4, 6, "open", 4, 0))
 
@@ -94,8 +95,8 @@ class Triggers(Reckons):
 class Once(Reckons):
     def test_for_each_thing_that_is_done(self):
         whole = deal("duty settle : ann must pay 5 coins to bob within 9 days after every 1 from 2",
-                     "duty thank : bob must send note to ann within 4 days after done settle", "free spare : settle after "
-                     "day 3000")
+                     "duty thank : bob must send note to ann within 4 days after done settle",
+                     "free spare : settle after day 3000")
         self.assertEqual(self.state(whole, said("3 cash 9"), 3).things(), [
             ("settle", 1, 2, 11, "done", 3, 0), ("settle", 2, 3, 12, "open", 3, 1), ("thank", 1, 3, 7, "open", 3, 0)])
         self.assertEqual(self.state(whole, said("3 cash 10"), 3).things(), [
@@ -142,7 +143,8 @@ class AtMostTwo(Reckons):
         late = [("give", 1, 0, 1, "late", 1, 0), ("give", 2, 1, 2, "late", 2, 0)]
         self.things(whole, [], 1, late[0], ("give", 2, 1, 2, "open", 1, 0))
         self.things(whole, [], 3000, *late)
-        self.things(whole, said("9 ask"), 10, ("give", 1, 0, 1, "done", 9, 0), late[1], ("give", 3, 10, 11, "open", 10, 0))
+        self.things(whole, said("9 ask"), 10, ("give", 1, 0, 1, "done", 9, 0), late[1],
+                    ("give", 3, 10, 11, "open", 10, 0))
 
     def test_of_each_duty_by_itself(self):
         whole = deal("duty give : ann must send ask to bob within 30 days after every 1 from 0",
@@ -184,7 +186,8 @@ class AtMostTwo(Reckons):
                     ("thank", 2, 4, 24, "open", 4, 0))
         self.things(whole, letters + said("5 cash 5"), 5, ("settle", 1, 2, 11, "done", 2, 0),
                     ("settle", 2, 3, 12, "done", 4, 0), ("settle", 3, 4, 13, "done", 4, 0),
-                    ("settle", 4, 5, 14, "done", 5, 0), ("thank", 1, 2, 22, "open", 2, 0), ("thank", 2, 4, 24, "open", 4, 0))
+                    ("settle", 4, 5, 14, "done", 5, 0), ("thank", 1, 2, 22, "open", 2, 0),
+                    ("thank", 2, 4, 24, "open", 4, 0))
 
 
 class Amounts(Reckons):
@@ -261,7 +264,8 @@ class Due(Reckons):
     def test_behind_day_3000(self):
         whole = deal("duty give : ann must send ask to bob within 1 days after every 1 from 2999")
         state = self.state(whole, [], 3000)
-        self.assertEqual(state.things(), [("give", 1, 2999, 3000, "late", 3000, 0), ("give", 2, 3000, 3001, "open", 3000, 0)])
+        self.assertEqual(state.things(),
+                         [("give", 1, 2999, 3000, "late", 3000, 0), ("give", 2, 3000, 3001, "open", 3000, 0)])
         self.assertEqual(state.owed(), [("ann", "bob", ("ask",), 3000, 0), ("ann", "bob", ("ask",), 3001, 0)])
 
 
@@ -303,8 +307,8 @@ class AheadOfThePhase(Reckons):
         whole = deal(GIVE + "day 3", "end over : after letter note while had note")
         self.assertIsNone(self.state(whole, said("4 note"), 9).ended)
         self.assertEqual(self.state(whole, said("4 note", "6 note"), 9).ended, 6)
-        whole = deal(GIVE + "day 3", "end over : after broken give while broken give", "end stop : after done give while "
-                     "broken give")
+        whole = deal(GIVE + "day 3", "end over : after broken give while broken give",
+                     "end stop : after done give while broken give")
         self.assertIsNone(self.state(whole, [], 9).ended)
         self.assertEqual(self.state(whole, said("9 ask"), 9).ended, 9)
 
@@ -317,7 +321,8 @@ class AheadOfThePhase(Reckons):
         self.assertEqual(state.things(), [("give", 1, 3, 5, "freed", 4, 0)])
 
     def test_what_the_end_brings_while_it_has_not_ended(self):
-        whole = deal(GIVE + "ended while not ended", GIVE.replace("give", "more") + "ended while ended", "end over : after day 4")
+        whole = deal(GIVE + "ended while not ended", GIVE.replace("give", "more") + "ended while ended",
+                     "end over : after day 4")
         self.things(whole, [], 9, ("give", 1, 4, 6, "late", 6, 0))
 
     def test_owes_and_broken_of_freed_and_done_things(self):
@@ -346,7 +351,8 @@ class Free(Reckons):
         self.things(whole, [], 9, ("give", 1, 3, 5, "freed", 4, 0))
 
     def test_what_is_paid_of_a_freed_thing_is_told(self):
-        whole = deal("duty settle : ann must pay 9 coins to bob within 5 days after day 1", "free spare : settle after day 3")
+        whole = deal("duty settle : ann must pay 9 coins to bob within 5 days after day 1",
+                     "free spare : settle after day 3")
         state = self.state(whole, said("2 cash 4", "4 cash 3"), 9)
         self.assertEqual(state.things(), [("settle", 1, 1, 6, "freed", 3, 5)])
         self.assertEqual((state.owed(), state.put_by()), ([], {("ann", "bob"): 3}))
@@ -354,7 +360,8 @@ class Free(Reckons):
     def test_each_trigger(self):
         other = "duty other : bob must send note to ann within 1 days after day 3"
         for trigger, letters, day in (
-            ("day 4", [], 4), ("every 2 from 3", [], 5), ("letter back", said("4 back 1"), 4), ("done other", said("4 note"), 4),
+            ("day 4", [], 4), ("every 2 from 3", [], 5), ("letter back", said("4 back 1"), 4),
+            ("done other", said("4 note"), 4),
             ("broken other", [], 4), ("letter ask", said("6 cash 1"), None), ("day 0", [], None),
             ("done other", said("3.1 back 1"), None), ("broken other", said("4 note"), None), ("every 4 from 1", [], 5),
         ):
@@ -365,8 +372,8 @@ class Free(Reckons):
 
     def test_behind_what_the_phase_does_itself(self):
         """The letter does its thing ahead: so it isn't freed; what is late in an evening is broken ahead."""
-        whole = deal(GIVE + "day 3", "free spare : give after letter ask", "duty thank : bob must send note to ann within 1 "
-                     "days after done give")
+        whole = deal(GIVE + "day 3", "free spare : give after letter ask",
+                     "duty thank : bob must send note to ann within 1 days after done give")
         self.things(whole, said("4 ask"), 4, ("give", 1, 3, 5, "done", 4, 0), ("thank", 1, 4, 5, "open", 4, 0))
         whole = deal(GIVE + "day 3", "free spare : give after broken give")
         state = self.state(whole, [], 5)
@@ -377,7 +384,8 @@ class Free(Reckons):
         whole = deal(GIVE + "day 3", "free spare : give after day 3")
         self.things(whole, [], 4, ("give", 1, 3, 5, "open", 3, 0))
         whole = deal(GIVE + "letter note", "free spare : give after letter note")
-        self.things(whole, said("4.1 note", "4.2 note"), 4, ("give", 1, 4, 6, "freed", 4, 0), ("give", 2, 4, 6, "open", 4, 0))
+        self.things(whole, said("4.1 note", "4.2 note"), 4, ("give", 1, 4, 6, "freed", 4, 0),
+                    ("give", 2, 4, 6, "open", 4, 0))
 
 
 class End(Reckons):
@@ -397,7 +405,8 @@ class End(Reckons):
         self.assertEqual(state.things()[2:4], [("keep", 1, 1, 3, "done", 6, 0), ("keep", 2, 4, 6, "late", 6, 0)])
 
     def test_nothing_is_brought_in_its_phase_or_behind_it(self):
-        rows = (GIVE + "letter note", GIVE.replace("give", "more") + "every 1 from 5", GIVE.replace("give", "much") + "done keep",
+        rows = (GIVE + "letter note", GIVE.replace("give", "more") + "every 1 from 5",
+                GIVE.replace("give", "much") + "done keep",
                 "duty keep : ann must send ask to bob within 9 days after day 1 stays", "end over : after letter note")
         whole = deal(*rows)
         self.things(whole, said("4 note", "6 note", "7 ask"), 9, ("keep", 1, 1, 10, "done", 7, 0))
@@ -416,12 +425,14 @@ class End(Reckons):
         whole = deal(GIVE + "ended", "duty more : bob must pay 4 coins to ann within 1 days after ended stays",
                      "end over : after day 4")
         self.things(whole, [], 4, ("give", 1, 4, 6, "open", 4, 0), ("more", 1, 4, 5, "open", 4, 4))
-        self.things(whole, said("5 ask", "5.2 back 4"), 9, ("give", 1, 4, 6, "done", 5, 0), ("more", 1, 4, 5, "done", 5, 0))
+        self.things(whole, said("5 ask", "5.2 back 4"), 9, ("give", 1, 4, 6, "done", 5, 0),
+                    ("more", 1, 4, 5, "done", 5, 0))
 
     def test_each_trigger(self):
         give = "duty give : ann must send ask to bob within 1 days after day 3"
         for trigger, letters, day in (
-            ("day 0", [], 0), ("day 4", [], 4), ("day 7", [], None), ("every 2 from 5", [], 5), ("letter back", said("4 back 1"), 4),
+            ("day 0", [], 0), ("day 4", [], 4), ("day 7", [], None), ("every 2 from 5", [], 5),
+            ("letter back", said("4 back 1"), 4),
             ("done give", said("4 ask"), 4), ("broken give", [], 4), ("broken give", said("4 ask"), None),
             ("done give", said("5 ask"), 5), ("done give", said("2 ask"), None), ("letter note", said("4 ask"), None),
         ):
@@ -459,8 +470,8 @@ class Later(Reckons):
         state = self.state(whole, said("4.1 cash 3"), 4)
         self.assertEqual(state.things(), [("settle", 1, 4, 7, "open", 4, 1)])
         self.assertEqual(state.put_by(), {})
-        whole = deal("duty settle : ann must pay 4 coins to bob within 3 days after letter cash", "free spare : settle after "
-                     "letter ask")
+        whole = deal("duty settle : ann must pay 4 coins to bob within 3 days after letter cash",
+                     "free spare : settle after letter ask")
         state = self.state(whole, said("4.1 cash 9", "4.2 ask"), 4)
         self.assertEqual(state.things(), [("settle", 1, 4, 7, "freed", 4, 4)])
         self.assertEqual(state.put_by(), {("ann", "bob"): 9})

@@ -64,7 +64,8 @@ class Conditions(Reckons):
     def test_not_in_the_state_behind_the_letter(self):
         """A word that may be sent once: the second one does nothing."""
         whole = worded("word cash by ann to bob while not had cash", "word ask by ann while had ask", END)
-        self.assertEqual(self.state(whole, said("4.1 cash 5", "4.2 cash 7", "9 cash 1"), 9).put_by(), {("ann", "bob"): 5})
+        self.assertEqual(self.state(whole, said("4.1 cash 5", "4.2 cash 7", "9 cash 1"), 9).put_by(),
+                         {("ann", "bob"): 5})
         self.had(whole, said("4.1 ask", "4.2 ask", "5 ask"), 9)
 
     def test_before(self):
@@ -107,7 +108,8 @@ class Conditions(Reckons):
 
     def test_all_any_not(self):
         whole = worded("word ask by ann", "word note by bob", "word both by cat while ( had ask and had note )",
-                       "word some by cat while ( had ask or had note )", "word none by cat while not ( had ask or had note )",
+                       "word some by cat while ( had ask or had note )",
+                       "word none by cat while not ( had ask or had note )",
                        "word three by cat while ( had ask and not had note and before 9 )", END)
         for words, may in (
             ((), ["ask", "none", "note"]),

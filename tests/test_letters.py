@@ -41,7 +41,8 @@ class Letter(unittest.TestCase):
     def test_sender_and_word(self):
         for at in (2, 3):
             self.right(at, "a", "z", "abcdefgh", "zzzzzzzz", "all", "from", *LANGUAGE_WORDS)
-            self.wrong(at, "", "abcdefghi", "A", "Ann", "a1", "a b", " a", "a ", "a\n", "`", "{", "_", "1", BIG, 1, True,
+            self.wrong(at, "", "abcdefghi", "A", "Ann", "a1", "a b", " a", "a ", "a\n", "`", "{", "_", "1", BIG, 1,
+                       True,
                        None, ("ann",), ["ann"], {"ann": 1}, (), [])
 
     def test_coins(self):
@@ -54,7 +55,8 @@ class Letter(unittest.TestCase):
 
     def test_other_forms(self):
         for thing in odd_things() + [
-            list(LETTER), LETTER[:-1], LETTER[1:], LETTER + (None,), LETTER + (0,), dict(enumerate(LETTER)), str(LETTER),
+            list(LETTER), LETTER[:-1], LETTER[1:], LETTER + (None,), LETTER + (0,), dict(enumerate(LETTER)),
+            str(LETTER),
             (LETTER,), [LETTER], (5, 7, "ann", "ask"), LETTER[::-1], ((5, 7), "ann", "ask", 3), (None,) * 5, ([],) * 5,
         ]:
             self.assertIs(is_letter(thing), False, thing)

@@ -46,6 +46,18 @@ class Sent(Reckons):
         self.assertEqual(self.done(whole, said("4 ask"), 5), [("one", 1)])
         self.assertEqual(self.done(whole, said("4 ask", "5 ask"), 5), [("one", 1), ("two", 1)])
 
+    def test_by_the_place_ahead_of_the_number(self):
+        """Three things due on day 7: of the duty that stands ahead the second one, of the other the first one."""
+        rows = ("duty one : ann must send ask to bob within 1 work after every 1 from 3",
+                "duty two : ann must send ask to bob within 1 work after day 5")
+        letters = said("4 ask", "6 ask")
+        whole = rested(((5, 6), ()), *rows)
+        self.assertEqual(self.done(whole, letters[:1], 6), [("one", 1)])
+        self.assertEqual([thing[:4] for thing in self.state(whole, letters, 6).things() if thing[4] == "open"],
+                         [("one", 3, 5, 7), ("two", 1, 5, 7)])
+        whole = rested(((5, 6), ()), *rows[::-1])
+        self.assertEqual(self.done(whole, letters, 6), [("two", 1), ("one", 1)])
+
     def test_late_ones_too(self):
         whole = deal(give("one", 9, "day 3"), give("two", 1, "day 1"))
         state = self.state(whole, said("3 ask"), 4)
@@ -61,11 +73,19 @@ class Sent(Reckons):
     def test_either_of_two_words(self):
         parties, rest, words, clauses = deal(give("one", 9, "every 1 from 1"))
         words += (("tell", "ann", None, None), ("hint", "ann", None, None))
-        for act, doing in ((("ask", "tell"), ("ask", "tell")), (("tell", "ask"), ("ask", "tell")), (("hint",), ("hint",))):
+        for act, doing in ((("ask", "tell"), ("ask", "tell")), (("tell", "ask"), ("ask", "tell")),
+                           (("hint",), ("hint",))):
             duty = clauses[0][:4] + (("send", act),) + clauses[0][5:]
             for word in ("ask", "tell", "hint"):
                 done = self.done((parties, rest, words, (duty,)), [(2, 1, "ann", word, 0)], 5)
                 self.assertEqual(done, [("one", 1)] if word in doing else [])
+
+    def test_a_plain_word_does_nothing_to_pay(self):
+        parties, rest, words, clauses = deal("duty part : bob must pay 1 / 2 to ann within 9 days after letter cash")
+        words += (("share", "bob", None, None),)
+        state = self.state((parties, rest, words, clauses), said("2 cash 8") + [(3, 1, "bob", "share", 0)], 5)
+        self.assertEqual(state.things(), [("part", 1, 2, 11, "open", 2, 4)])
+        self.assertEqual(state.had(), ["cash", "share"])
 
     def test_a_word_with_coins_does_nothing_to_send(self):
         whole = deal(give("one", 9, "day 1"))
@@ -94,13 +114,15 @@ class Paid(Reckons):
         for letters, thing in (
             (said("2 cash 8"), ("one", 1, 1, 10, "late", 10, 1)), (said("2 cash 9"), ("one", 1, 1, 10, "done", 2, 0)),
             (said("2 cash 8", "5 cash 1"), ("one", 1, 1, 10, "done", 5, 0)),
-            (said("12 cash 9"), ("one", 1, 1, 10, "done", 12, 0)), (said("12 cash 8"), ("one", 1, 1, 10, "late", 10, 1)),
+            (said("12 cash 9"), ("one", 1, 1, 10, "done", 12, 0)),
+            (said("12 cash 8"), ("one", 1, 1, 10, "late", 10, 1)),
         ):
             self.things(whole, letters, 15, thing)
 
     def test_the_first_by_the_day_due(self):
         whole = deal(settle("one", 9, 9, "day 1"), settle("two", 5, 4, "day 2"), settle("three", 4, 6, "day 3"))
-        for coins, left in ((1, [9, 4, 4, 0]), (5, [9, 0, 4, 0]), (7, [9, 0, 2, 0]), (9, [9, 0, 0, 0]), (10, [8, 0, 0, 0]),
+        for coins, left in ((1, [9, 4, 4, 0]), (5, [9, 0, 4, 0]), (7, [9, 0, 2, 0]), (9, [9, 0, 0, 0]),
+                            (10, [8, 0, 0, 0]),
                             (18, [0, 0, 0, 0]), (20, [0, 0, 0, 2])):
             self.assertEqual(self.left(whole, said(f"4 cash {coins}"), 4), left)
 
@@ -121,7 +143,8 @@ class Paid(Reckons):
                     ("duty", "four", "cat", "ann", ("pay", ("coins", 5)), ("days", 9), ("day", 1), None, False))
         whole = (parties, rest, words, clauses)
         for sender, word, payee, left in (
-            ("ann", "cash", "bob", [5, 0, 5, 5]), ("bob", "back", "ann", [0, 5, 5, 5]), ("ann", "gift", "cat", [5, 5, 0, 5]),
+            ("ann", "cash", "bob", [5, 0, 5, 5]), ("bob", "back", "ann", [0, 5, 5, 5]),
+            ("ann", "gift", "cat", [5, 5, 0, 5]),
             ("cat", "grant", "ann", [5, 5, 5, 0]),
         ):
             state = self.state(whole, [(2, 1, sender, word, 7)], 5)
@@ -184,7 +207,8 @@ class PutBy(Reckons):
 
     def test_ahead_of_what_is_late(self):
         """Brought in an evening, and paid in the next one, that of its day due."""
-        whole = deal("duty seed : bob must send note to ann within 1 days after day 3", settle("one", 4, 1, "broken seed"),
+        whole = deal("duty seed : bob must send note to ann within 1 days after day 3",
+                     settle("one", 4, 1, "broken seed"),
                      "fee slow : 1 at most 5 for one")
         state = self.state(whole, said("1 cash 9"), 9)
         self.assertEqual(state.things()[1], ("one", 1, 4, 5, "done", 5, 0))
@@ -238,7 +262,8 @@ class Late(Reckons):
         state = self.state(whole, said("6 ask", "8 cash 5"), 3000)
         self.assertEqual([thing[4:6] for thing in state.things()], [("done", 6), ("done", 8), ("freed", 7)])
         self.assertEqual(state.broken(), [("one", 1, 5), ("two", 1, 5), ("three", 1, 5)])
-        self.assertTrue(state.holds(("broken", "one")) and state.holds(("broken", "two")) and state.holds(("broken", "three")))
+        for name in ("one", "two", "three"):
+            self.assertIs(state.holds(("broken", name)), True)
 
     def test_partly_paid_is_late_too(self):
         whole = deal(settle("two", 5, 2, "day 3"))
@@ -264,7 +289,8 @@ class Fees(Reckons):
             self.assertEqual(self.fees(whole, [], day), [("slow", 1, grown, 0)] if grown else [])
 
     def test_each_and_most(self):
-        for each, most, grown in ((1, 1, [1, 1, 1]), (5, 3, [3, 3, 3]), (5, 5, [5, 5, 5]), (5, 6, [5, 6, 6]), (1, 9, [1, 2, 3]),
+        for each, most, grown in ((1, 1, [1, 1, 1]), (5, 3, [3, 3, 3]), (5, 5, [5, 5, 5]), (5, 6, [5, 6, 6]),
+                                  (1, 9, [1, 2, 3]),
                                   (1000000000, 1000000000, [1000000000] * 3), (1000000000, 1, [1, 1, 1])):
             whole = deal(settle("one", 9, 2, "day 3"), f"fee slow : {each} at most {most} for one")
             for after, coins in enumerate(grown):
@@ -316,7 +342,8 @@ class Fees(Reckons):
         self.assertEqual((state.fees(), state.owed(), state.put_by()), ([("slow", 1, 4, 4)], [], {("ann", "bob"): 1}))
 
     def test_they_grow_behind_the_end_where_the_duty_stays(self):
-        whole = deal(settle("one", 9, 2, "day 3") + " stays", "fee slow : 2 at most 7 for one", "end over : after day 6")
+        whole = deal(settle("one", 9, 2, "day 3") + " stays", "fee slow : 2 at most 7 for one",
+                     "end over : after day 6")
         self.assertEqual(self.fees(whole, [], 8), [("slow", 1, 6, 0)])
 
     def test_freed_or_ended_in_an_evening(self):
@@ -327,11 +354,12 @@ class Fees(Reckons):
             self.assertEqual(self.fees(whole, [], 20), [("slow", 1, 6, 0)])
         # In a morning, or by a letter, it is freed ahead of the evening.
         for trigger, letters in (("day 8", []), ("letter ask", said("8 ask"))):
-            whole = deal(settle("one", 9, 2, "day 3"), "fee slow : 2 at most 70 for one", f"free spare : one after {trigger}")
+            whole = deal(settle("one", 9, 2, "day 3"), "fee slow : 2 at most 70 for one",
+                         f"free spare : one after {trigger}")
             self.assertEqual(self.fees(whole, letters, 20), [("slow", 1, 4, 0)])
 
     def test_paid_in_the_order_of_debts(self):
-        """Of a thing and its fee, both due on one day, the clause that stands ahead; of an elder thing the fee first."""
+        """Of a thing and its fee, both due on one day, the clause that stands ahead; an elder fee ahead of a thing."""
         ahead = deal("fee slow : 2 at most 7 for one", settle("one", 9, 2, "day 3"), settle("two", 5, 1, "day 5"))
         behind = deal(settle("one", 9, 2, "day 3"), settle("two", 5, 1, "day 5"), "fee slow : 2 at most 7 for one")
         for whole, coins, left, paid in (

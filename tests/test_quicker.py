@@ -1,9 +1,11 @@
 """Promise 14: the quick reckoner tells what the plain one tells; on which days something turns."""
 
 import unittest
+from unittest import mock
 
 from dealtongue.agreements import first_wrong
 from dealtongue.errors import NoAgreement, NoDay, NoLetters
+from dealtongue.phases import run_day
 from dealtongue.quicker import quick, quick_on, turnings
 from dealtongue.reckoner import State, reckoned
 from tests.makers import made
@@ -29,14 +31,19 @@ WITH_REST = ((5, 6), (15, 35, 36, 700))
 CASES = (
     (rested(WITH_REST, *RENT), RENT_LETTERS),
     (rested(WITH_REST, *RENT), []),
-    (deal("duty give : ann must send ask to bob within 1 days after every 60 from 59 stays", "fee slow : 1 at most 3000 for give",
-          "fee fast : 999 at most 1000 for give", "duty more : ann must pay 9 coins to bob within 30 work after broken give",
-          "fee late : 5 at most 23 for more"), said("1 cash 500", "300 ask", "301 ask", "302.1 cash 30", "302.2 cash 900")),
+    (deal("duty give : ann must send ask to bob within 1 days after every 60 from 59 stays",
+          "fee slow : 1 at most 3000 for give",
+          "fee fast : 999 at most 1000 for give",
+          "duty more : ann must pay 9 coins to bob within 30 work after broken give",
+          "fee late : 5 at most 23 for more"),
+     said("1 cash 500", "300 ask", "301 ask", "302.1 cash 30", "302.2 cash 900")),
     (deal("duty give : ann must send ask to bob within 30 days after every 1 from 0",
-          "free spare : give after every 7 from 200", "end over : after every 1 from 350 while before 351"), said("5 ask", "99 ask")),
+          "free spare : give after every 7 from 200", "end over : after every 1 from 350 while before 351"),
+     said("5 ask", "99 ask")),
     (deal("end over : after every 60 from 0 while not before 200"), said("400 ask")),
-    (deal("duty one : ann must pay 5 coins to bob within 2 days after done one", "duty two : ann must pay 5 coins to bob within "
-          "1 days after every 50 from 1", "duty three : ann must pay 2 coins to bob within 1 days after broken two"),
+    (deal("duty one : ann must pay 5 coins to bob within 2 days after done one",
+          "duty two : ann must pay 5 coins to bob within 1 days after every 50 from 1",
+          "duty three : ann must pay 2 coins to bob within 1 days after broken two"),
      said("1 cash 4", "55 cash 1", "101 cash 100", "160 cash 3")),
 )
 
@@ -71,7 +78,8 @@ class Quick(unittest.TestCase):
         whole = rested(((0, 3), (2990, 2998, 3000)),
                        "duty give : ann must send ask to bob within 4 work after every 3 from 2980",
                        "duty more : ann must pay 9 coins to bob within 2 days after broken give",
-                       "fee slow : 2 at most 9 for give", "free spare : give after letter note", "end over : after day 3000")
+                       "fee slow : 2 at most 9 for give", "free spare : give after letter note",
+                       "end over : after day 3000")
         letters = said("2984 cash 3", "2989 ask", "2993 note", "2994 cash 2", "3000 cash 5")
         for day in range(2975, 3001):
             self.same(whole, letters, day)
@@ -90,6 +98,69 @@ class Quick(unittest.TestCase):
                 for condition in conditions:
                     self.assertIs(quick(agreement, letters, day).holds(condition),
                                   reckoned(agreement, letters, day).holds(condition))
+
+
+class BusyDays(unittest.TestCase):
+    """Days on which no more happens than that fees grow aren't gone through."""
+
+    def days(self, agreement, letters, last):
+        """Tells the days that quick goes through."""
+        found = []
+
+        def run(deal, standing, day, said_then):
+            found.append(day)
+            run_day(deal, standing, day, said_then)
+
+        with mock.patch("dealtongue.quicker.run_day", run):
+            state = quick(agreement, letters, last)
+        self.assertEqual(told_of(state), told_of(reckoned(agreement, letters, last)))
+        return found
+
+    def test_days_that_are_named_or_due(self):
+        whole = deal("duty give : ann must send ask to bob within 3 days after day 4",
+                     "fee slow : 2 at most 500 for give")
+        self.assertEqual(self.days(whole, [], 3000), [4, 7])
+        self.assertEqual(self.days(whole, [], 6), [4])
+        self.assertEqual(self.days(whole, [], 3), [])
+        self.assertEqual(self.days(whole, said("2 note", "5 ask", "5.2 note", "90 note 3"), 3000), [2, 4, 5, 90])
+        self.assertEqual(self.days(whole, said("300 ask", "400 cash 3"), 350), [4, 7, 300])
+
+    def test_days_of_the_words_conditions(self):
+        parties, rest, words, clauses = deal("end over : after day 3000 while before 50")
+        words += (("more", "bob", None, ("not", ("before", 70))),)
+        self.assertEqual(self.days((parties, rest, words, clauses), [], 2999), [70])
+
+    def test_steps_where_nothing_can_come_of_them(self):
+        whole = deal("duty give : ann must send ask to bob within 30 days after every 1 from 0",
+                     "fee slow : 2 at most 500 for give")
+        self.assertEqual(self.days(whole, [], 3000), [0, 1, 30, 31])
+        self.assertEqual(self.days(whole, said("50 ask"), 3000), [0, 1, 30, 31, 50, 51, 81])
+        whole = deal("duty give : ann must send ask to bob within 30 days after every 1 from 0",
+                     "free spare : give after every 50 from 500")
+        self.assertEqual(self.days(whole, [], 549), [0, 1, 30, 31, 500, 501, 530, 531])
+        whole = deal("free spare : give after every 1 from 0",
+                     "duty give : ann must send ask to bob within 9 days after day 5")
+        self.assertEqual(self.days(whole, [], 3000), [5, 6])
+        whole = deal("end over : after every 5 from 7",
+                     "duty give : ann must send ask to bob within 9 days after every 5 from 3")
+        self.assertEqual(self.days(whole, [], 3000), [3, 7])
+
+    def test_steps_from_a_first_day(self):
+        whole = deal("duty give : ann must send ask to bob within 1 days after every 60 from 100",
+                     "free spare : give after broken give")
+        self.assertEqual(self.days(whole, [], 300), [100, 101, 160, 161, 220, 221, 280, 281])
+
+    def test_coins_that_are_put_by(self):
+        whole = deal("duty give : ann must send ask to bob within 3 days after day 4",
+                     "fee slow : 2 at most 5 for give")
+        self.assertEqual(self.days(whole, said("1 cash 90"), 3000), [1, 4, 7, 8, 9, 10, 11])
+        self.assertEqual(self.days(whole, said("1 cash 3"), 3000), [1, 4, 7, 8, 9, 10])
+        self.assertEqual(self.days(whole, said("1 back 90"), 3000), [1, 4, 7])
+        self.assertEqual(self.days(whole, said("20 cash 90"), 3000), [4, 7, 20])
+        whole = deal("duty give : bob must send note to ann within 3 days after day 4",
+                     "duty settle : ann must pay 4 coins to bob within 20 days after broken give")
+        self.assertEqual(self.days(whole, said("1 cash 90"), 3000), [1, 4, 7, 8])
+        self.assertEqual(self.days(whole, said("1 cash 3"), 3000), [1, 4, 7, 8, 27])
 
 
 class QuickOn(unittest.TestCase):
@@ -124,7 +195,8 @@ class QuickOn(unittest.TestCase):
                      "duty settle : ann must pay 4 coins to bob within 1 days after done give")
         state = quick(whole, early, 4)
         told = told_of(reckoned(whole, early + late, 9))
-        for others in (early, [], said("0 ask", "1 ask", "2 ask", "4.99 note"), [(4, 1, "eve", "nowhere", 7)], said("4 cash 77")):
+        for others in (early, [], said("0 ask", "1 ask", "2 ask", "4.99 note"), [(4, 1, "eve", "nowhere", 7)],
+                       said("4 cash 77")):
             for letters in (others + late, late + others, late[::-1] + others):
                 self.assertEqual(told_of(quick_on(whole, letters, state, 9)), told)
         self.assertNotEqual(told_of(quick_on(whole, late + said("5.2 ask"), state, 9)), told)
@@ -140,7 +212,8 @@ class QuickOn(unittest.TestCase):
             self.assertEqual(told_of(state), told)
 
     def test_two_ways_on_from_one_state(self):
-        whole = deal("duty settle : ann must pay 9 coins to bob within 2 days after day 1", "fee slow : 1 at most 9 for settle")
+        whole = deal("duty settle : ann must pay 9 coins to bob within 2 days after day 1",
+                     "fee slow : 1 at most 9 for settle")
         state = reckoned(whole, said("2 cash 4"), 5)
         one = quick_on(whole, said("6 cash 5"), state, 7)
         other = quick_on(whole, said("6 cash 4"), state, 7)
@@ -167,10 +240,13 @@ class Turnings(unittest.TestCase):
             self.assertEqual(turnings(agreement, letters, 800), self.expected(agreement, letters, 800))
 
     def test_by_hand(self):
-        whole = deal("duty give : ann must send ask to bob within 3 days after day 4", "fee slow : 2 at most 5 for give")
+        whole = deal("duty give : ann must send ask to bob within 3 days after day 4",
+                     "fee slow : 2 at most 5 for give")
         for letters, days in (
-            ([], [4, 7, 8, 9, 10]), (said("5 ask"), [4, 5]), (said("9 ask"), [4, 7, 8, 9]), (said("2 note", "3 note"), [2, 4, 7, 8, 9, 10]),
-            (said("6 cash 3"), [4, 6, 7, 8, 9, 10]), (said("20 cash 3"), [4, 7, 8, 9, 10, 20]), (said("6 note 3"), [4, 7, 8, 9, 10]),
+            ([], [4, 7, 8, 9, 10]), (said("5 ask"), [4, 5]), (said("9 ask"), [4, 7, 8, 9]),
+            (said("2 note", "3 note"), [2, 4, 7, 8, 9, 10]),
+            (said("6 cash 3"), [4, 6, 7, 8, 9, 10]), (said("20 cash 3"), [4, 7, 8, 9, 10, 20]),
+            (said("6 note 3"), [4, 7, 8, 9, 10]),
             (said("6 cash 3", "12 cash 2"), [4, 6, 7, 8, 9, 10, 12]),
         ):
             self.assertEqual(turnings(whole, letters, 3000), days)
@@ -184,11 +260,16 @@ class Turnings(unittest.TestCase):
         self.assertEqual(turnings(deal("duty give : ann must send ask to bob within 3 days after day 0"), [], 0), [0])
         self.assertEqual(turnings(deal("end over : after day 0"), [], 0), [0])
         self.assertEqual(turnings(deal("end over : after day 1"), [], 0), [])
+        parties, rest, words, clauses = deal("end over : after day 3000")
+        for last, days in ((0, []), (1, [1]), (2999, [1])):
+            more = (("more", "bob", None, ("before", 1)), ("much", "bob", None, ("before", 0)))
+            self.assertEqual(turnings((parties, rest, words + more, clauses), said("0 ask 5"), last), days)
 
     def test_by_what_may_be_sent_alone(self):
         parties, rest, _, clauses = deal("duty give : ann must send ask to bob within 3 days after day 40")
         for condition, days in (
-            (("before", 0), [40, 43]), (("before", 1), [1, 40, 43]), (("before", 7), [7, 40, 43]), (("not", ("before", 7)), [7, 40, 43]),
+            (("before", 0), [40, 43]), (("before", 1), [1, 40, 43]), (("before", 7), [7, 40, 43]),
+            (("not", ("before", 7)), [7, 40, 43]),
             (("before", 3000), [40, 43, 3000]), (("all", ("before", 9), ("not", ("before", 5))), [5, 9, 40, 43]),
             (("any", ("had", "ask"), ("before", 40)), [40, 43]), (("all", ("had", "ask"), ("before", 9)), [40, 43]),
             (("any", ("all", ("before", 2), ("not", ("ended",))), ("not", ("before", 3))), [2, 3, 40, 43]),
@@ -200,12 +281,15 @@ class Turnings(unittest.TestCase):
         """Nothing is brought where two wait, of 0 coins, or where it has ended; an idle letter does nothing."""
         whole = deal("duty give : ann must send ask to bob within 30 days after every 1 from 0")
         self.assertEqual(turnings(whole, [], 100), [0, 1, 30, 31])
-        whole = deal("duty part : bob must pay 1 / 9 to ann within 3 days after letter cash", "end over : after letter note")
-        self.assertEqual(turnings(whole, said("3 cash 8", "5 note", "6 note", "7 ask", "8 ask", "9 cash 9"), 100), [3, 5, 7, 9])
+        whole = deal("duty part : bob must pay 1 / 9 to ann within 3 days after letter cash",
+                     "end over : after letter note")
+        self.assertEqual(turnings(whole, said("3 cash 8", "5 note", "6 note", "7 ask", "8 ask", "9 cash 9"), 100),
+                         [3, 5, 7, 9])
         self.assertEqual(turnings(whole, said("3 ask 8", "4 cash 0"), 100), [])
 
     def test_near_day_3000(self):
-        whole = deal("duty give : ann must send ask to bob within 1 days after day 2997", "fee slow : 1 at most 9 for give")
+        whole = deal("duty give : ann must send ask to bob within 1 days after day 2997",
+                     "fee slow : 1 at most 9 for give")
         self.assertEqual(turnings(whole, [], 3000), [2997, 2998, 2999, 3000])
         self.assertEqual(turnings(whole, [], 2999), [2997, 2998, 2999])
         self.assertEqual(turnings(deal("end over : after day 3000"), [], 3000), [3000])

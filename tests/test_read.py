@@ -20,7 +20,8 @@ RIGHT_BY_FORM = (
     "word back by ann to bob while ( had ask and ( ended or not not before 3000 ) )",
 )
 RIGHT_ALL_THE_SAME = (
-    "parties bob ann cat", "parties ann cat bob", "rest 6", "rest 0", "holiday 41 3000", "holiday 0 3000", "holiday 0 41",
+    "parties bob ann cat", "parties ann cat bob", "rest 6", "rest 0", "holiday 41 3000", "holiday 0 3000",
+    "holiday 0 41",
     "word cash by bob to ann while ( broken give or before 9 or ended )",
     "word cash by bob to ann while ( not not broken give or before 9 or ended )",
     "word cash by bob to ann while not ( broken give or before 9 or ended )",
@@ -84,7 +85,8 @@ class Right(unittest.TestCase):
             self.same(made(seed)[0])
 
     def test_no_truth_is_read(self):
-        whole = read_agreement("parties a b\nrest 1\nholiday 0 1\nword c by a\nend d : after every 1 from 0 while before 1")
+        text = "parties a b\nrest 1\nholiday 0 1\nword c by a\nend d : after every 1 from 0 while before 1"
+        whole = read_agreement(text)
         self.assertEqual(repr(whole), repr((
             ("a", "b"), ((1,), (0, 1)), (("c", "a", None, None),), (("end", "d", ("every", 0, 1), ("before", 1)),))))
 
@@ -198,7 +200,8 @@ class Wrong(unittest.TestCase):
 
     def no_numbers(self, number):
         return [
-            "0" + number, "00", "000", "+" + number, "-" + number, "-1", "-0", "1.0", "1e3", "0x1", "1_0", "x", number + "x",
+            "0" + number, "00", "000", "+" + number, "-" + number, "-1", "-0", "1.0", "1e3", "0x1", "1_0", "x",
+            number + "x",
             "1" + THIRTY, "9" * 31, "1" + "0" * 30, "0" * 31, "9" * 5000, "", "one", "True", "None", ":", number + ",",
         ]
 
@@ -207,12 +210,15 @@ class Wrong(unittest.TestCase):
         for text in ("( ended and ended )", "( ended or ended or ended )", "( ( ended or ended ) and ended )"):
             read_agreement(head + text)
         for text in (
-            "( ended )", "( ended", "ended )", "( ended and ended", "ended and ended )", "ended and ended", "ended or ended",
-            "( ended and ended or ended )", "( ended or ended and ended )", "( ended and )", "( and ended )", "( )", "(", ")",
+            "( ended )", "( ended", "ended )", "( ended and ended", "ended and ended )", "ended and ended",
+            "ended or ended",
+            "( ended and ended or ended )", "( ended or ended and ended )", "( ended and )", "( and ended )", "( )",
+            "(", ")",
             "( ended and ended ) )", "( ( ended and ended )", "( ( ended and ended ) )", "not", "not ( ended )", "",
             "( ended and ( ended ) )", "( ended and and ended )", "( ended ended )", "(ended and ended)", "not not",
             "[ ended and ended ]", "( ended , ended )", "( ended and ended ) and ended", "ended ended", "ended stays",
-            "( ended or ended and ended and ended )", "all", "( all ended ended )", "before", "had", "had c d", "before c",
+            "( ended or ended and ended and ended )", "all", "( all ended ended )", "before", "had", "had c d",
+            "before c",
             "while ended", "ended while ended", "letter c", "day 1", "done d",
         ):
             self.wrong(head + text, 2)
@@ -283,21 +289,26 @@ class RightRowsThatMakeNone(unittest.TestCase):
         self.none("parties a b", "word c by a")
         self.none("parties a b", "end d : after day 1")
         self.none("parties a", "word c by a", "end d : after day 1")
-        for row in ("parties ann", "parties ann bob", "parties ann bob cat ann", "parties a b c d e", "parties ann bob ask",
+        for row in ("parties ann", "parties ann bob", "parties ann bob cat ann", "parties a b c d e",
+                    "parties ann bob ask",
                     "parties ann bob cat dan eve", "parties ann bob cat give", "parties " + " ".join(["ann"] * 60)):
             self.changed(0, row)
 
     def test_rest(self):
-        for row in ("rest 7", "rest 6 5", "rest 1 1", "rest 0 1 2 3 4", "rest 0 1 2 3 4 5 6", "rest 3000", "rest " + THIRTY):
+        for row in ("rest 7", "rest 6 5", "rest 1 1", "rest 0 1 2 3 4", "rest 0 1 2 3 4 5 6", "rest 3000",
+                    "rest " + THIRTY):
             self.changed(1, row)
         for row in ("holiday 3001", "holiday 2 1", "holiday 7 7", "holiday " + " ".join(map(str, range(21)))):
             self.changed(2, row)
 
     def test_words(self):
-        for row in ("word tell by ann", "word ask by dan", "word ask by ask", "word ask by ann to ann", "word ask by ann to x",
+        for row in ("word tell by ann", "word ask by dan", "word ask by ask", "word ask by ann to ann",
+                    "word ask by ann to x",
                     "word ann by ann", "word give by ann", "word ask by ann to bob", "word ask by ann while had give",
-                    "word ask by ann while had x", "word ask by ann while owes ask", "word ask by ann while broken fine",
-                    "word ask by ann while before 3001", "word ask by ann while ( ended or ended or ended or ended or ended )",
+                    "word ask by ann while had x", "word ask by ann while owes ask",
+                    "word ask by ann while broken fine",
+                    "word ask by ann while before 3001",
+                    "word ask by ann while ( ended or ended or ended or ended or ended )",
                     "word ask by ann while not not not not ended", "word ask by ann while ( had x and ended )"):
             self.changed(3, row)
         words = [f"word w{sign} by ann" for sign in "abcdefgh"]
@@ -316,14 +327,20 @@ class RightRowsThatMakeNone(unittest.TestCase):
             head + "pay 0 / 0" + tail, head + "send ask to ann within 1 days after day 41",
             head + "send ask to dan within 1 days after day 41", head + "pay 1 coins to cat within 1 days after day 41",
             head + "send ask to bob within 0 days after day 41", head + "send ask to bob within 31 work after day 41",
-            head + "send ask to bob within 1 days after day 3001", head + "send ask to bob within 1 days after every 0 from 1",
-            head + "send ask to bob within 1 days after every 61 from 1", head + "send ask to bob within 1 days after letter x",
+            head + "send ask to bob within 1 days after day 3001",
+            head + "send ask to bob within 1 days after every 0 from 1",
+            head + "send ask to bob within 1 days after every 61 from 1",
+            head + "send ask to bob within 1 days after letter x",
             head + "send ask to bob within 1 days after every 1 from 3001",
-            head + "send ask to bob within 1 days after done fine", head + "send ask to bob within 1 days after broken ask",
-            head + "pay 1 / 2 to bob within 1 days after letter ask", head + "pay 3 / 2 to bob within 1 days after letter cash",
-            head + "pay 1 / 1001 to bob within 1 days after letter cash", head + "pay 1 / 2 to bob within 1 days after ended",
+            head + "send ask to bob within 1 days after done fine",
+            head + "send ask to bob within 1 days after broken ask",
+            head + "pay 1 / 2 to bob within 1 days after letter ask",
+            head + "pay 3 / 2 to bob within 1 days after letter cash",
+            head + "pay 1 / 1001 to bob within 1 days after letter cash",
+            head + "pay 1 / 2 to bob within 1 days after ended",
             head + "pay 1 / 2 to cat within 1 days after letter cash", head + "send ask" + tail + " while had give",
-            "duty settle : ann must send ask" + tail, "duty ann : ann must send ask" + tail, "duty ask : ann must send ask" + tail,
+            "duty settle : ann must send ask" + tail, "duty ann : ann must send ask" + tail,
+            "duty ask : ann must send ask" + tail,
             "duty give : ask must send ask" + tail, "duty give : cat must send ask" + tail,
         ):
             self.changed(8, row)
@@ -332,9 +349,11 @@ class RightRowsThatMakeNone(unittest.TestCase):
         for row in (
             "fee fine : 0 at most 60 for settle", "fee fine : 1 at most 0 for settle", "fee fine : 1 at most 60 for x",
             "fee fine : 1000000001 at most 60 for settle", "fee fine : 1 at most 1000000001 for settle",
-            "fee fine : 1 at most 60 for answer", "fee mild : 1 at most 60 for settle", "fee fine : 1 at most 60 for ask",
+            "fee fine : 1 at most 60 for answer", "fee mild : 1 at most 60 for settle",
+            "fee fine : 1 at most 60 for ask",
             "free fine : x after day 1", "free fine : give after ended", "free fine : fine after day 1",
-            "end fine : after ended", "end fine : after day 3001", "end fine : after done halt", "end fine : after letter give",
+            "end fine : after ended", "end fine : after day 3001", "end fine : after done halt",
+            "end fine : after letter give",
             "end give : after day 1", "end fine : after day 1 while owes ask", "end cat : after day 1",
         ):
             self.changed(14, row)
@@ -350,11 +369,14 @@ class RightRowsThatMakeNone(unittest.TestCase):
 class Conditions(unittest.TestCase):
     def test_what_is_none(self):
         for text in odd_things() + [thing for thing in NO_CONDITIONS if not isinstance(thing, str)] + [
-            "\n", "had ask\n", "\nhad ask", " had ask", "had ask ", "had  ask", "had", "had duty", "had ask ask", "had Ask",
+            "\n", "had ask\n", "\nhad ask", " had ask", "had ask ", "had  ask", "had", "had duty", "had ask ask",
+            "had Ask",
             "before 3001", "before -1", "before 01", "before " + THIRTY, "before 1" + THIRTY, "before", "ended ended",
-            "( ended )", "( ended and ended or ended )", "( ended and ended", "( ended and ended ) ended", "while ended",
+            "( ended )", "( ended and ended or ended )", "( ended and ended", "( ended and ended ) ended",
+            "while ended",
             "( ended and ended and ended and ended and ended )", "( ended or ended or ended or ended or ended )",
-            "not not not not ended", "( ended and not not not ended )", "( ended or ( ended and ( ended or not ended ) ) )",
+            "not not not not ended", "( ended and not not not ended )",
+            "( ended or ( ended and ( ended or not ended ) ) )",
             deep(40), deep(41), deep(5000), deep(5), deep(5, "( ahead"), "had ask\nhad ask", "not", "all", "letter ask",
         ]:
             with self.assertRaises(NoText) as caught:

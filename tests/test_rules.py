@@ -1,6 +1,7 @@
 """The rules of the language that can be seen at a glance, and where the interface's names stand."""
 
 import ast
+import builtins
 import importlib
 import inspect
 import pathlib
@@ -61,6 +62,30 @@ class Rules(unittest.TestCase):
                 self.assertTrue(all(module.startswith("dealtongue.") for module in above.pop(name)))
         for path in FILES:
             self.assertFalse([node for node in ast.walk(ast.parse(path.read_text())) if isinstance(node, ast.Import)])
+
+    def test_no_name_hides_another_one(self):
+        for path in FILES:
+            tree = ast.parse(path.read_text())
+            above = {node.name for node in tree.body if isinstance(node, ast.ClassDef)}
+            for node in tree.body:
+                if isinstance(node, ast.ImportFrom):
+                    above.update(name.name for name in node.names)
+            for node in ast.walk(tree):
+                if isinstance(node, ast.FunctionDef):
+                    names = {name.id for name in ast.walk(node) if isinstance(name, ast.Name)
+                             and isinstance(name.ctx, ast.Store)}
+                    names.update(name.arg for name in node.args.args)
+                    for name in names:
+                        self.assertNotIn(name, above, path.name)
+                        self.assertFalse(hasattr(builtins, name), name)
+
+    def test_all_imports_are_used(self):
+        for path in FILES:
+            tree = ast.parse(path.read_text())
+            used = {node.id for node in ast.walk(tree) if isinstance(node, ast.Name)}
+            for node in tree.body:
+                if isinstance(node, ast.ImportFrom):
+                    self.assertLessEqual({name.name for name in node.names}, used, path.name)
 
     def test_the_interface_stands_where_it_is_listed(self):
         for file, names in INTERFACE.items():

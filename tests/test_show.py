@@ -147,7 +147,8 @@ class Agreements(unittest.TestCase):
     def test_names_that_are_words_of_the_telling(self):
         whole = (
             ("from", "all"), ((), ()), (("any", "from", None, None), ("share", "all", "from", ("had", "any"))),
-            (("duty", "weekdays", "all", "from", ("pay", ("share", 1, 2)), ("work", 3), ("letter", "share"), None, True),
+            (("duty", "weekdays", "all", "from", ("pay", ("share", 1, 2)), ("work", 3), ("letter", "share"), None,
+              True),
              ("fee", "name", "weekdays", 1, 2), ("end", "trigger", ("broken", "weekdays"), ("owes", "weekdays"))),
         )
         self.assertEqual(show_agreement(whole).split("\n"), [

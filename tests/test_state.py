@@ -116,7 +116,8 @@ class Told(Reckons):
         self.assertEqual(self.state(whole, [(4, 1, "ann", "ask", 0)], 4).may(), ["ask"])
 
     def test_new_lists_and_dicts(self):
-        for state in (reckoned(WHOLE, LETTERS, 8), quick(WHOLE, LETTERS, 8), quick_on(WHOLE, LETTERS, quick(WHOLE, LETTERS, 3), 8)):
+        for state in (reckoned(WHOLE, LETTERS, 8), quick(WHOLE, LETTERS, 8),
+                      quick_on(WHOLE, LETTERS, quick(WHOLE, LETTERS, 3), 8)):
             for ask in (state.things, state.broken, state.fees, state.owed, state.may, state.had):
                 told = ask()
                 self.assertIsNot(ask(), told)
@@ -139,7 +140,8 @@ class Holds(Reckons):
     def test_each_kind(self):
         whole = deal("duty give : bob must send note to ann within 1 days after day 4",
                      "duty settle : ann must pay 9 coins to bob within 20 days after day 2",
-                     "duty never : ann must pay 9 coins to bob within 20 days after day 3000", "end over : after letter back")
+                     "duty never : ann must pay 9 coins to bob within 20 days after day 3000",
+                     "end over : after letter back")
         letters = said("3 ask", "6 note", "7 back 1", "8 ask 1")
         for condition, days in (
             (("had", "ask"), range(3, 10)), (("had", "cash"), ()), (("had", "note"), range(6, 10)),
@@ -161,8 +163,10 @@ class Holds(Reckons):
         five = ("not", ("not", ("not", ("not", ("ended",)))))
         for thing in odd_things() + [
             None, "ended", ["ended"], ("had",), ("had", "nowhere"), ("had", "settle"), ("had", "ann"), ("had", "zfee"),
-            ("owes", "ask"), ("owes", "zfee"), ("owes", "spare"), ("owes", "bob"), ("broken", "nowhere"), ("broken", "note"),
-            ("before", 3001), ("before", -1), ("before", True), ("before", "8"), ("not", None), ("not",), ("all", ("ended",)),
+            ("owes", "ask"), ("owes", "zfee"), ("owes", "spare"), ("owes", "bob"), ("broken", "nowhere"),
+            ("broken", "note"),
+            ("before", 3001), ("before", -1), ("before", True), ("before", "8"), ("not", None), ("not",),
+            ("all", ("ended",)),
             ("any",) + (("ended",),) * 5, five, ("not", ("had", "nowhere")), ("all", ("ended",), ("owes", "nowhere")),
             ("any", ("ended",), ("not", ("broken", "ask"))), ("ended", "x"), ("day", 1), ("letter", "ask"), "had ask",
             ("all", ("ended",), ["ended"]), ("had", ["ask"]), ("had", {}), ("owes", None), ("before", None),
@@ -176,8 +180,10 @@ class Holds(Reckons):
 class Equal(unittest.TestCase):
     def test_equal_ones(self):
         state = reckoned(WHOLE, LETTERS, 8)
-        for other in (state, reckoned(WHOLE, LETTERS[::-1], 8), quick(WHOLE, LETTERS, 8), reckoned(WHOLE, LETTERS + said("9 note"), 8),
-                      quick_on(WHOLE, LETTERS, quick(WHOLE, LETTERS, 7), 8), reckoned(WHOLE, LETTERS + said("8 ask 1"), 8)):
+        for other in (state, reckoned(WHOLE, LETTERS[::-1], 8), quick(WHOLE, LETTERS, 8),
+                      reckoned(WHOLE, LETTERS + said("9 note"), 8),
+                      quick_on(WHOLE, LETTERS, quick(WHOLE, LETTERS, 7), 8),
+                      reckoned(WHOLE, LETTERS + said("8 ask 1"), 8)):
             self.assertIs(state == other, True)
             self.assertIs(state != other, False)
             self.assertIs(other == state, True)
@@ -242,10 +248,28 @@ class Equal(unittest.TestCase):
         words = [row for row in rows if row.startswith("word")]
         return deal(*words, *[row for row in rows if not row.startswith("word")])
 
+    def test_things_alone(self):
+        """A thing freed ahead of its day due."""
+        head = "duty give : ann must send ask to bob within {} days after day 3"
+        states = [reckoned(deal(head.format(days), "free spare : give after day 4"), [], 5) for days in (2, 3)]
+        told = [told_of(state) for state in states]
+        self.assertEqual([name for name in told[0] if told[0][name] != told[1][name]], ["things"])
+        self.assertIs(states[0] == states[1], False)
+
+    def test_fees_alone(self):
+        """A fee of a freed thing, paid whole."""
+        rows = ("duty give : ann must send ask to bob within 1 days after day 1", "free spare : give after day 4")
+        states = [reckoned(deal(*rows, f"fee slow : {each} at most 9 for give"), said(f"5 cash {each}"),
+                           5) for each in (2, 3)]
+        told = [told_of(state) for state in states]
+        self.assertEqual([name for name in told[0] if told[0][name] != told[1][name]], ["fees"])
+        self.assertIs(states[0] == states[1], False)
+
     def test_broken_alone(self):
         """A thing freed on its day due, ahead of the evening or by it."""
         rows = ("duty give : ann must send ask to bob within 2 days after day 3",)
-        states = [reckoned(deal(*rows, f"free spare : give after {trigger}"), [], 5) for trigger in ("day 5", "broken give")]
+        states = [reckoned(deal(*rows, f"free spare : give after {trigger}"), [], 5) for trigger in ("day 5",
+                                                                                                     "broken give")]
         told = [told_of(state) for state in states]
         self.assertEqual([name for name in told[0] if told[0][name] != told[1][name]], ["broken"])
         self.assertIs(states[0] == states[1], False)
@@ -271,7 +295,8 @@ class Refused(unittest.TestCase):
 
     def test_what_is_no_agreement(self):
         for function in self.functions():
-            for thing in odd_things() + [list(WHOLE), agreement(words=()), WHOLE[:3] + ((("end", "x", ("ended",), None),),)]:
+            for thing in odd_things() + [list(WHOLE), agreement(words=()),
+                                         WHOLE[:3] + ((("end", "x", ("ended",), None),),)]:
                 for letters, day in (([], 3), (None, None), ((), 3), ([], -1)):
                     with self.assertRaises(NoAgreement) as caught:
                         function(thing, letters, day)
@@ -281,8 +306,10 @@ class Refused(unittest.TestCase):
         letter = LETTERS[0]
         for function in self.functions():
             for thing in [odd for odd in odd_things() if odd != []] + [
-                (), tuple(LETTERS), [letter, letter], [list(letter)], [letter[:4]], [letter + (0,)], {letter: 1}, letter,
-                [(0, 1, "ann", "ask", 0)] * 2, [(day, 1, "ann", "ask", 0) for day in range(61)], [(3001, 1, "a", "b", 0)],
+                (), tuple(LETTERS), [letter, letter], [list(letter)], [letter[:4]], [letter + (0,)], {letter: 1},
+                letter,
+                [(0, 1, "ann", "ask", 0)] * 2, [(day, 1, "ann", "ask", 0) for day in range(61)],
+                [(3001, 1, "a", "b", 0)],
             ]:
                 for day in (3, None, -1, 3001):
                     with self.assertRaises(NoLetters):
