@@ -40,10 +40,7 @@ def after(day, span, rest):
     if not is_span(span):
         raise NoSpan("a span is wanted")
     refuse_no_rest(rest)
-    word, many = span
-    if word == "days":
-        return day + many
-    return nth_work_day(day, many, rest)
+    return day_led_to(day, span, rest)
 
 
 def work_between(one, other, rest):
@@ -72,10 +69,23 @@ def works(day, rest):
     return day % WEEK not in weekdays and day not in holidays
 
 
+def day_led_to(day, span, rest):
+    """Tells of a number of any size the day to which a span leads from the day of this number."""
+    word, many = span
+    if word == "days":
+        return day + many
+    return nth_work_day(day, many, rest)
+
+
 def nth_work_day(day, many, rest):
     """Tells the working day that is so many of them behind a day."""
-    found = day
-    left = many
+    weekdays, holidays = rest
+    each_week = WEEK - len(weekdays)
+    # Whole weeks are passed at once, as many as surely lead to a day ahead of the one looked for.
+    weeks = (many - 1) // each_week
+    found = day + WEEK * weeks
+    lost = [holiday for holiday in holidays if day < holiday <= found and holiday % WEEK not in weekdays]
+    left = many - weeks * each_week + len(lost)
     while left > 0:
         found += 1
         if works(found, rest):

@@ -1,5 +1,10 @@
 """An agreement as the reckoners look things up in it: its clauses with their parts by name."""
 
+ENDED = ("ended",)
+MORNING = ("day", "every", "ended")
+AT_A_LETTER = ("letter", "done", "ended")
+EVENING = ("done", "broken", "ended")
+
 
 class Duty:
     """A duty clause: `words` are those that do it, `amount` what there is to pay (None of one to send)."""
@@ -7,9 +12,13 @@ class Duty:
     def __init__(self, place, clause):
         self.place = place
         _, self.name, self.who, self.whom, act, self.span, self.trigger, self.condition, self.stays = clause
-        kind, what = act
-        self.words = what if kind == "send" else ()
-        self.amount = what if kind == "pay" else None
+        self.kind, what = act
+        self.words = what if self.kind == "send" else ()
+        self.amount = what if self.kind == "pay" else None
+
+    def goes_on_as(self, other):
+        """Tells whether the things of this duty stay when the other one of its name is in force."""
+        return (self.who, self.whom, self.kind) == (other.who, other.whom, other.kind)
 
 
 class Fee:
@@ -18,8 +27,7 @@ class Fee:
     def __init__(self, place, clause, duty):
         self.place = place
         _, self.name, self.duty, self.each, self.most = clause
-        self.who = duty.who
-        self.whom = duty.whom
+        self.pair = (duty.who, duty.whom)
 
 
 class Free:
@@ -47,11 +55,20 @@ class Deal:
         self.fee_clauses = [
             Fee(place, clause, self.duties[clause[2]]) for place, clause in placed if clause[0] == "fee"
         ]
+        self.fee_places = {(fee.name, fee.duty): fee.place for fee in self.fee_clauses}
         self.frees = [Free(clause) for clause in clauses if clause[0] == "free"]
         self.ends = [End(clause) for clause in clauses if clause[0] == "end"]
-        # All clauses that go by a trigger.
+        # All clauses that go by a trigger, and those that may go in each kind of phase.
         self.going = list(self.duties.values()) + self.frees + self.ends
+        self.going_in_mornings = going_by(self.going, MORNING)
+        self.going_at_letters = going_by(self.going, AT_A_LETTER)
+        self.going_in_evenings = going_by(self.going, EVENING)
         self.morning_triggers = morning_triggers(self.going)
+
+
+def going_by(going, kinds):
+    """Lists the clauses whose triggers are of these kinds."""
+    return [clause for clause in going if clause.trigger[0] in kinds]
 
 
 def morning_triggers(going):

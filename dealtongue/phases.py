@@ -1,14 +1,13 @@
 """The phases of a day: the morning, each letter said on it, the evening."""
 
-from dealtongue.days import after
-from dealtongue.deals import falls_on
-from dealtongue.payments import grow_fees, late_things, lead_coins, lead_put_by
-from dealtongue.standings import DONE, FREED, LATE, OPEN
+from dealtongue.days import day_led_to
+from dealtongue.deals import ENDED, falls_on
+from dealtongue.payments import grow_fees, late_things, lead_letter, lead_put_by
+from dealtongue.standings import LATE, OPEN
 from dealtongue.truths import is_so
 
 # So many things of a duty may be open or late at once.
 MOST_PENDING = 2
-ENDED = ("ended",)
 
 
 class Phase:
@@ -17,64 +16,71 @@ class Phase:
     It is made ahead of all that the phase does: conditions are asked of the state as it is then.
     """
 
-    def __init__(self, deal, standing):
+    def __init__(self, deal, standing, going):
         self.deal = deal
         self.standing = standing
-        self.ready = {clause.name: is_so(clause.condition, standing) for clause in deal.going}
-        # Triggers, each as many times as it happens.
-        self.happened = []
+        self.ready = [clause.name for clause in going if is_so(clause.condition, standing)]
+        # By each trigger the happenings that were it, in the order in which they go.
+        self.happened = {}
         # What the letter of the phase brings, of which shares are taken.
         self.coins = 0
 
     def note(self, word, things):
         """Takes note that things were done or broken."""
-        self.happened.extend([(word, thing.duty) for thing in things])
+        for _, duty, number in sorted([(word, thing.duty, thing.number) for thing in things]):
+            self.happened.setdefault((word, duty), []).append((word, duty, number))
 
-    def times(self, clause):
-        """Tells how many times a clause goes in this phase."""
-        return self.happened.count(clause.trigger) if self.ready[clause.name] else 0
+    def causes(self, clause):
+        """Lists the happenings by which a clause goes in this phase."""
+        return self.happened.get(clause.trigger, []) if clause.name in self.ready else []
 
     def run_clauses(self):
         """Lets all clauses go by what happened."""
-        self.free_things()
-        self.end_all()
-        self.bring_things()
+        if self.happened:
+            self.free_things()
+            self.end_all()
+            self.bring_things()
 
     def free_things(self):
         """Lets the free clauses go."""
         for clause in self.deal.frees:
-            if self.times(clause) > 0:
-                self.free_all_of(clause.duty)
+            causes = self.causes(clause)
+            if causes:
+                self.free_all_of(clause.duty, causes[0], clause.name)
 
-    def free_all_of(self, duty):
-        """Frees the things of a duty that are open or late."""
+    def free_all_of(self, duty, cause, clause):
+        """Frees the things of a duty that are open or late, by a clause or by none."""
         for thing in list(self.standing.pending[duty]):
-            self.standing.close(thing, FREED)
+            self.standing.let_go(thing, cause, clause)
 
     def end_all(self):
         """Lets the end clauses go, where it hasn't ended."""
-        if self.standing.ended is not None or not any([self.times(clause) > 0 for clause in self.deal.ends]):
+        if self.standing.ended is not None:
             return
-        self.standing.end()
-        self.happened.append(ENDED)
+        clauses = [clause for clause in self.deal.ends if self.causes(clause)]
+        if not clauses:
+            return
+        first = clauses[0]
+        self.standing.end(self.causes(first)[0], first.name)
+        self.happened[ENDED] = [ENDED]
         for duty in list(self.deal.duties.values()):
             if not duty.stays:
-                self.free_all_of(duty.name)
+                self.free_all_of(duty.name, ENDED, None)
 
     def bring_things(self):
         """Lets the duties go: where it has ended, only those that its end brings."""
         for duty in list(self.deal.duties.values()):
             if self.standing.ended is None or duty.trigger == ENDED:
-                for _ in range(self.times(duty)):
-                    self.bring_thing(duty)
+                for cause in self.causes(duty):
+                    self.bring_thing(duty, cause)
 
-    def bring_thing(self, duty):
+    def bring_thing(self, duty, cause):
         """Brings a thing of a duty, where there is room for it and its amount isn't 0."""
         left = self.amount_of(duty)
         if len(self.standing.pending[duty.name]) == MOST_PENDING or (duty.amount is not None and left == 0):
             return
-        due = after(self.standing.day, duty.span, self.deal.rest)
-        self.standing.bring(duty.name, due, left)
+        due = day_led_to(self.standing.day, duty.span, self.deal.rest)
+        self.standing.bring(duty.name, due, left, cause)
 
     def amount_of(self, duty):
         """Tells the coins that a thing brought now is to pay, 0 of one to send."""
@@ -97,8 +103,11 @@ def run_day(deal, standing, day, letters):
 
 def run_morning(deal, standing):
     """Runs the morning of the standing's day."""
-    phase = Phase(deal, standing)
-    phase.happened.extend([trigger for trigger in deal.morning_triggers if falls_on(trigger, standing.day)])
+    triggers = [trigger for trigger in deal.morning_triggers if falls_on(trigger, standing.day)]
+    if not triggers:
+        return
+    phase = Phase(deal, standing, deal.going_in_mornings)
+    phase.happened = {trigger: [("day", standing.day)] for trigger in triggers}
     phase.run_clauses()
 
 
@@ -106,23 +115,23 @@ def run_letter(deal, standing, letter):
     """Runs the phase of a letter."""
     if not counts(deal, standing, letter):
         return
-    _, _, sender, word, coins = letter
+    said, turn, _, word, coins = letter
     _, payee, _ = deal.words[word]
-    phase = Phase(deal, standing)
-    phase.happened.append(("letter", word))
+    phase = Phase(deal, standing, deal.going_at_letters)
+    phase.happened = {("letter", word): [("counts", said, turn)]}
     phase.coins = coins
     if payee is None:
-        done = do_first_thing(deal, standing, word)
+        done = do_first_thing(deal, standing, letter)
     else:
-        done = lead_coins(deal, standing, (sender, payee), coins)
-    standing.hear(word)
+        done = lead_letter(deal, standing, letter)
+    standing.hear(letter)
     phase.note("done", done)
     phase.run_clauses()
 
 
 def run_evening(deal, standing):
     """Runs the evening of the standing's day."""
-    phase = Phase(deal, standing)
+    phase = Phase(deal, standing, deal.going_in_evenings)
     # Fees grow only for things that were late ahead of the evening.
     late = late_things(standing)
     phase.note("done", lead_put_by(deal, standing))
@@ -131,19 +140,27 @@ def run_evening(deal, standing):
     phase.run_clauses()
 
 
-def counts(deal, standing, letter):
-    """Tells whether a letter counts as things stand."""
+def first_against(deal, standing, letter):
+    """Tells what a letter is idle for, first of these: "word", "sender", "coins", "while"; None where it counts."""
     _, _, sender, word, coins = letter
     if word not in deal.words:
-        return False
+        return "word"
     teller, payee, condition = deal.words[word]
-    if sender != teller or (coins > 0) != (payee is not None):
-        return False
-    return is_so(condition, standing)
+    if sender != teller:
+        return "sender"
+    if (coins > 0) != (payee is not None):
+        return "coins"
+    return None if is_so(condition, standing) else "while"
 
 
-def do_first_thing(deal, standing, word):
-    """Does the first thing, if any, that a plain word can do; lists it."""
+def counts(deal, standing, letter):
+    """Tells whether a letter counts as things stand."""
+    return first_against(deal, standing, letter) is None
+
+
+def do_first_thing(deal, standing, letter):
+    """Does the first thing, if any, that a letter of a plain word can do; lists it."""
+    said, turn, _, word, _ = letter
     rows = []
     for duty in list(deal.duties.values()):
         if word in duty.words:
@@ -151,7 +168,7 @@ def do_first_thing(deal, standing, word):
     if not rows:
         return []
     first = min(rows, key=lambda row: (row[0], row[1], row[2]))
-    standing.close(first[3], DONE)
+    standing.finish(first[3], ("counts", said, turn))
     return [first[3]]
 
 

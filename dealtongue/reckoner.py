@@ -2,12 +2,9 @@
 
 from dealtongue.agreements import are_there
 from dealtongue.conditions import is_condition, named_by_condition
-from dealtongue.deals import Deal
+from dealtongue.courses import Course
 from dealtongue.errors import NoCondition
-from dealtongue.letters import letters_by_day
-from dealtongue.phases import run_day
 from dealtongue.refusals import refuse_to_reckon
-from dealtongue.standings import Standing
 from dealtongue.truths import is_so, words_that_may
 
 COINS = ("coins",)
@@ -16,11 +13,11 @@ COINS = ("coins",)
 class State:
     """How all stands behind the evening of a day. What stands behind it is never changed again."""
 
-    def __init__(self, deal, standing):
-        self.day = standing.day
-        self.ended = standing.ended
-        self.deal = deal
-        self.standing = standing
+    def __init__(self, course):
+        self.deal = course.deal
+        self.standing = course.standing
+        self.day = course.standing.day
+        self.ended = course.standing.ended
 
     def __eq__(self, other):
         if not isinstance(other, State):
@@ -51,13 +48,8 @@ class State:
 
     def fees(self):
         """Lists (fee, number, grown, paid) of the fees that have grown."""
-        told = []
-        for fee in self.deal.fee_clauses:
-            growths = self.standing.growths[fee.name]
-            for number in sorted(growths):
-                growth = growths[number]
-                told.append((fee.name, number, growth.grown, growth.grown - growth.left))
-        return told
+        growths = [self.standing.growths[key] for key in keys_in_order(self.standing.growths, self.deal.fee_places)]
+        return [(growth.fee, growth.number, growth.grown, growth.grown - growth.left) for growth in growths]
 
     def owed(self):
         """Lists, rising, (who, whom, what, due, left) of open and late things, and of fees that aren't paid whole."""
@@ -66,9 +58,8 @@ class State:
             what = COINS if duty.amount is not None else duty.words
             for thing in self.standing.pending[duty.name]:
                 told.append((duty.who, duty.whom, what, thing.due, thing.left))
-        for fee in self.deal.fee_clauses:
-            for growth in list(self.standing.unpaid[fee.name].values()):
-                told.append((fee.who, fee.whom, COINS, growth.due, growth.left))
+        for growth in list(self.standing.unpaid.values()):
+            told.append((*growth.pair, COINS, growth.due, growth.left))
         return sorted(told)
 
     def may(self):
@@ -86,34 +77,44 @@ class State:
 
     def holds(self, condition):
         """Tells whether a condition of the agreement holds."""
-        if not is_condition_in(condition, self.deal):
-            raise NoCondition("a condition of this agreement is wanted")
+        refuse_no_condition(condition, self.deal)
         return is_so(condition, self.standing)
 
     def things_in_order(self):
-        """Lists the things by (place, number)."""
+        """Lists the things by (place, number), those of duties that the text hasn't behind, by their names."""
+        named = self.standing.all_things
+        left_out = sorted([name for name in named if name not in self.deal.duties])
         found = []
-        for duty in self.deal.duties:
-            found.extend(self.standing.all_things[duty])
+        for name in list(self.deal.duties) + left_out:
+            found.extend(named[name])
         return found
 
 
 def reckoned(agreement, letters, day):
     """Tells the State behind the evening of a day."""
     refuse_to_reckon(agreement, letters, day)
-    deal = Deal(agreement)
-    standing = fresh_standing(deal)
-    by_day = letters_by_day(letters)
-    for today in range(day + 1):
-        run_day(deal, standing, today, by_day.get(today, []))
-    return State(deal, standing)
+    return state_behind([(0, agreement)], letters, day)
 
 
-def fresh_standing(deal):
-    """Tells how things stand ahead of the morning of day 0."""
-    return Standing(list(deal.duties), [fee.name for fee in deal.fee_clauses])
+def state_behind(versions, letters, day):
+    """Tells the State of versions behind the evening of a day."""
+    course = Course(versions, letters)
+    course.run_to(day)
+    return State(course)
+
+
+def keys_in_order(growths, places):
+    """Lists the keys (fee, duty, number) by (place, number), those of fees that the text hasn't behind."""
+    there = sorted([(places[key[:2]], key[2], key) for key in growths if key[:2] in places])
+    return [row[2] for row in there] + sorted([key for key in growths if key[:2] not in places])
 
 
 def is_condition_in(thing, deal):
     """Tells whether a thing is a condition of this agreement."""
     return is_condition(thing) and are_there(named_by_condition(thing), deal.words, deal.duties)
+
+
+def refuse_no_condition(thing, deal):
+    """Refuses what is no condition of this agreement."""
+    if not is_condition_in(thing, deal):
+        raise NoCondition("a condition of this agreement is wanted")

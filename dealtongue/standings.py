@@ -1,4 +1,7 @@
-"""How things stand at one moment of the reckoning: all that is carried on from phase to phase."""
+"""How things stand at one moment of the reckoning: all that is carried on from phase to phase.
+
+Beside what is told of a State it keeps what happened by what, letter by letter and coin by coin.
+"""
 
 OPEN = "open"
 LATE = "late"
@@ -7,103 +10,155 @@ FREED = "freed"
 
 
 class Thing:
-    """A duty as it was brought one time: `left` are the coins that aren't paid, `late_on` the day it was broken."""
+    """A duty as it was brought one time: `left` are the coins that aren't paid, `late_on` the day it was broken.
 
-    def __init__(self, duty, number, brought, due, left):
+    `brought_by` and `closed_by` are the happenings by which it was brought, and done or freed; `clause` is the name
+    of the clause that freed it.
+    """
+
+    def __init__(self, duty, number, brought, due, left, brought_by):
         self.duty = duty
         self.number = number
         self.brought = brought
         self.due = due
         self.left = left
+        self.brought_by = brought_by
         self.how = OPEN
         self.on = brought
         self.late_on = None
+        self.closed_by = None
+        self.clause = None
 
     def copied(self):
         """Tells another thing that is just like this one."""
-        other = Thing(self.duty, self.number, self.brought, self.due, self.left)
+        other = Thing(self.duty, self.number, self.brought, self.due, self.left, self.brought_by)
         other.how = self.how
         other.on = self.on
         other.late_on = self.late_on
+        other.closed_by = self.closed_by
+        other.clause = self.clause
         return other
+
+    def goal(self):
+        """Tells where coins go that are led to this thing."""
+        return ("thing", self.duty, self.number)
 
 
 class Growth:
-    """What a fee has grown for the thing of a number: `due` is that of the thing, `left` what isn't paid of it."""
+    """What a fee for a duty has grown for the thing of a number: `due` is that of the thing.
 
-    def __init__(self, fee, number, due):
+    `pair` are the two whose debt it is, `left` what isn't paid of it.
+    """
+
+    def __init__(self, fee, duty, number, due, pair):
         self.fee = fee
+        self.duty = duty
         self.number = number
         self.due = due
+        self.pair = pair
         self.grown = 0
         self.left = 0
 
     def copied(self):
         """Tells another one that is just like this one."""
-        other = Growth(self.fee, self.number, self.due)
+        other = Growth(self.fee, self.duty, self.number, self.due, self.pair)
         other.grown = self.grown
         other.left = self.left
         return other
 
+    def goal(self):
+        """Tells where coins go that are led to this one."""
+        return ("fee", self.fee, self.number)
+
 
 class Standing:
-    """How things stand: things and what fees have grown, by the names of their clauses."""
+    """How things stand: things by the names of their duties, what fees have grown by (fee, duty, number)."""
 
-    def __init__(self, duties, fees):
+    def __init__(self, duties):
         self.day = 0
         self.ended = None
+        # The happening by which it ended, and the name of the clause.
+        self.ended_by = None
+        self.ended_clause = None
+        # The letters that counted, in their order, and their words.
+        self.counted = []
         self.heard = {}
-        self.all_things = {duty: [] for duty in duties}
+        self.all_things = {}
         # Those that are open or late, and below what isn't paid: so that the others needn't be gone through each day.
-        self.pending = {duty: [] for duty in duties}
+        self.pending = {}
         self.breached = {}
-        self.growths = {fee: {} for fee in fees}
-        self.unpaid = {fee: {} for fee in fees}
+        self.growths = {}
+        self.unpaid = {}
         self.purses = {}
+        # Where coins went: rows of the ledger.
+        self.rows = []
         # Set by all that is told of a State, but for the day.
         self.turned = False
+        self.make_room(duties)
+
+    def make_room(self, duties):
+        """Makes room for the things of duties of these names."""
+        for duty in duties:
+            self.all_things.setdefault(duty, [])
+            self.pending.setdefault(duty, [])
 
     def copied(self):
         """Tells another standing that is just like this one, and shares nothing with it that changes."""
-        other = Standing(list(self.all_things), list(self.growths))
+        other = Standing([])
         other.day = self.day
         other.ended = self.ended
+        other.ended_by = self.ended_by
+        other.ended_clause = self.ended_clause
+        other.counted = list(self.counted)
         other.heard = dict(self.heard)
         for duty in list(self.all_things):
             things = [thing.copied() for thing in self.all_things[duty]]
             other.all_things[duty] = things
             other.pending[duty] = [thing for thing in things if thing.how in (OPEN, LATE)]
         other.breached = dict(self.breached)
-        for fee in list(self.growths):
-            growths = [growth.copied() for growth in list(self.growths[fee].values())]
-            other.growths[fee] = {growth.number: growth for growth in growths}
-            other.unpaid[fee] = {growth.number: growth for growth in growths if growth.left > 0}
+        other.growths = {key: self.growths[key].copied() for key in self.growths}
+        other.unpaid = {key: other.growths[key] for key in self.unpaid}
         other.purses = {pair: self.purses[pair] for pair in self.purses}
+        other.rows = list(self.rows)
         return other
 
-    def hear(self, word):
-        """Takes note of a word of which a letter counts."""
+    def hear(self, letter):
+        """Takes note of a letter that counts."""
+        self.counted.append(letter)
+        word = letter[3]
         if word not in self.heard:
             self.heard[word] = True
             self.turned = True
 
-    def end(self):
-        """Ends it all."""
+    def end(self, cause, clause):
+        """Ends it all, by a happening and a clause."""
         self.ended = self.day
+        self.ended_by = cause
+        self.ended_clause = clause
         self.turned = True
 
-    def bring(self, duty, due, left):
+    def bring(self, duty, due, left, cause):
         """Brings a thing of a duty."""
         number = len(self.all_things[duty]) + 1
-        thing = Thing(duty, number, self.day, due, left)
+        thing = Thing(duty, number, self.day, due, left, cause)
         self.all_things[duty].append(thing)
         self.pending[duty].append(thing)
         self.turned = True
 
-    def close(self, thing, how):
+    def finish(self, thing, cause):
+        """Makes an open or late thing a done one."""
+        self.close(thing, DONE, cause)
+
+    def let_go(self, thing, cause, clause):
+        """Makes an open or late thing a freed one, by a clause or by none."""
+        thing.clause = clause
+        self.close(thing, FREED, cause)
+
+    def close(self, thing, how, cause):
         """Makes an open or late thing a done or freed one."""
         thing.how = how
         thing.on = self.day
+        thing.closed_by = cause
         self.pending[thing.duty].remove(thing)
         self.turned = True
 
@@ -115,21 +170,20 @@ class Standing:
         self.breached[thing.duty] = True
         self.turned = True
 
-    def pay(self, debt, coins):
+    def pay(self, debt, coins, cause):
         """Takes coins off a debt: a thing, which is done when it is paid whole, or what a fee has grown."""
         debt.left -= coins
         self.turned = True
         if debt.left == 0:
             if isinstance(debt, Thing):
-                self.close(debt, DONE)
+                self.finish(debt, cause)
             else:
-                del self.unpaid[debt.fee][debt.number]
+                del self.unpaid[debt.fee, debt.duty, debt.number]
 
     def keep(self, pair, coins):
         """Puts coins by for a pair, on top of what is put by for them."""
-        if coins > 0:
-            self.purses[pair] = self.purses.get(pair, 0) + coins
-            self.turned = True
+        self.purses[pair] = self.purses.get(pair, 0) + coins
+        self.turned = True
 
     def take_out(self, pair):
         """Takes out all that is put by for a pair, and tells how many coins these are."""
@@ -139,18 +193,20 @@ class Standing:
 
     def grown_for(self, fee, thing):
         """Tells what a fee has grown for a thing."""
-        growths = self.growths[fee.name]
-        return growths[thing.number].grown if thing.number in growths else 0
+        key = (fee.name, fee.duty, thing.number)
+        return self.growths[key].grown if key in self.growths else 0
 
     def grow(self, fee, thing, evenings):
         """Lets a fee grow for a late thing on so many evenings; tells on how many of them it did."""
         more = min(fee.each * evenings, fee.most - self.grown_for(fee, thing))
-        if more == 0:
+        # It may be below 0: what has grown more by an elder text stays so.
+        if more <= 0:
             return 0
-        growth = self.growths[fee.name].setdefault(thing.number, Growth(fee.name, thing.number, thing.due))
+        key = (fee.name, fee.duty, thing.number)
+        growth = self.growths.setdefault(key, Growth(fee.name, fee.duty, thing.number, thing.due, fee.pair))
         growth.grown += more
         growth.left += more
-        self.unpaid[fee.name][thing.number] = growth
+        self.unpaid[key] = growth
         self.turned = True
         # On the last evening it may have grown by less than on the others.
         return (more + fee.each - 1) // fee.each

@@ -2,6 +2,8 @@
 
 import random
 
+from dealtongue.agreements import first_wrong
+
 PARTIES = ("ann", "bob", "cat", "dan")
 MOST = 1000000000
 
@@ -125,3 +127,37 @@ def made(seed):
     """Tells the agreement and the letters of a seed."""
     maker = Maker(seed)
     return maker.agreement(), maker.letters()
+
+
+def amended(maker, elder):
+    """Makes another text out of an elder one: some of its clauses as they were, some otherwise, some left out."""
+    some = maker.random
+    while True:
+        for name in maker.names:
+            if some.random() < 0.1:
+                maker.routes[name] = (*maker.pair(), None)[:2] if some.random() < 0.5 else (maker.pair()[0], None)
+        fresh = maker.agreement()
+        known = {clause[1]: clause for clause in elder[3]}
+        clauses = []
+        for clause in fresh[3]:
+            old = known.get(clause[1])
+            if old is not None and some.random() < 0.7:
+                clause = old
+                if clause[0] == "duty" and some.random() < 0.3:
+                    clause = clause[:5] + (("days", some.randint(1, 9)),) + clause[6:]
+            if clause[0] == "duty" or some.random() < 0.9:
+                clauses.append(clause)
+        whole = fresh[:3] + (tuple(clauses[some.choice((0, 0, 0, 1)):]),)
+        if first_wrong(whole) is None:
+            return whole
+
+
+def made_versions(seed, last=60):
+    """Tells the versions and the letters of a seed."""
+    maker = Maker(seed)
+    texts = [maker.agreement()]
+    letters = maker.letters(last)
+    for _ in range(maker.random.choice((0, 1, 1, 2, 3, 5))):
+        texts.append(amended(maker, maker.random.choice(texts)))
+    firsts = [0] + sorted(maker.random.sample(range(1, last + 1), len(texts) - 1))
+    return list(zip(firsts, texts)), letters

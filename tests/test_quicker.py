@@ -111,7 +111,7 @@ class BusyDays(unittest.TestCase):
             found.append(day)
             run_day(deal, standing, day, said_then)
 
-        with mock.patch("dealtongue.quicker.run_day", run):
+        with mock.patch("dealtongue.courses.run_day", run):
             state = quick(agreement, letters, last)
         self.assertEqual(told_of(state), told_of(reckoned(agreement, letters, last)))
         return found

@@ -16,24 +16,64 @@ INTERFACE = {
     "letters": ("is_letter", "are_letters"),
     "reckoner": ("State", "reckoned"),
     "quicker": ("quick", "quick_on", "turnings"),
+    "coins": ("ledger", "balances"),
+    "causes": ("chain", "is_chain", "weighed", "idle_why"),
+    "versions": ("reckoned_by", "reached_by"),
+    "disputes": ("readings", "asked"),
+    "books": ("Book",),
+    "ahead": ("may_come",),
+    "keeping": ("fate", "sends"),
+    "alike": ("apart",),
 }
 METHODS = {
     ("reckoner", "State"): ("things", "broken", "fees", "owed", "may", "had", "put_by", "holds", "__eq__"),
+    ("books", "Book"): ("do", "run", "undo", "again", "told", "readings", "letters", "deeds", "changed", "asked", "today"),
 }
+LIBRARY = {"heapq": ("heappush", "heappop"), "math": ("lcm",)}
 PARAMETERS = {
-    ("texts", "show_agreement"): ["agreement"], ("texts", "show_condition"): ["condition"],
-    ("texts", "read_agreement"): ["text"], ("texts", "read_condition"): ["text"],
-    ("letters", "is_letter"): ["thing"], ("letters", "are_letters"): ["thing"],
-    ("reckoner", "reckoned"): ["agreement", "letters", "day"], ("quicker", "quick"): ["agreement", "letters", "day"],
-    ("quicker", "quick_on"): ["agreement", "letters", "state", "day"],
-    ("quicker", "turnings"): ["agreement", "letters", "day"],
+    ("errors", "NoAgreement"): "(place)", ("errors", "Twice"): "(said, turn)",
+    ("days", "is_rest"): "(thing)", ("days", "is_span"): "(thing)", ("days", "is_work"): "(day, rest)",
+    ("days", "after"): "(day, span, rest)", ("days", "work_between"): "(one, other, rest)",
+    ("agreements", "is_agreement"): "(thing)", ("agreements", "first_wrong"): "(thing)",
+    ("texts", "show_agreement"): "(agreement)", ("texts", "show_condition"): "(condition)",
+    ("texts", "read_agreement"): "(text)", ("texts", "read_condition"): "(text)",
+    ("letters", "is_letter"): "(thing)", ("letters", "are_letters"): "(thing)",
+    ("reckoner", "reckoned"): "(agreement, letters, day)", ("quicker", "quick"): "(agreement, letters, day)",
+    ("quicker", "quick_on"): "(agreement, letters, state, day)", ("quicker", "turnings"): "(agreement, letters, day)",
+    ("coins", "ledger"): "(agreement, letters, day)", ("coins", "balances"): "(agreement, letters, day)",
+    ("causes", "chain"): "(agreement, letters, day, happening)", ("causes", "is_chain"): "(agreement, letters, day, thing)",
+    ("causes", "weighed"): "(agreement, letters, day, condition)",
+    ("causes", "idle_why"): "(agreement, letters, day, said, turn)",
+    ("versions", "reckoned_by"): "(versions, letters, day)",
+    ("versions", "reached_by"): "(versions, letters, day, *, place)",
+    ("disputes", "readings"): "(versions, letters, open_ones, day)",
+    ("disputes", "asked"): "(versions, letters, open_ones, day, condition)",
+    ("books", "Book"): "(agreement, *, today=0)",
+    ("ahead", "may_come"): "(agreement, condition)",
+    ("keeping", "fate"): "(agreement, party, *, letters=None, day=0)",
+    ("keeping", "sends"): "(agreement, party, mover, letters, day)",
+    ("alike", "apart"): "(one, other)",
+}
+METHOD_PARAMETERS = {
+    ("reckoner", "State", "holds"): "(self, condition)", ("reckoner", "State", "things"): "(self)",
+    ("books", "Book", "do"): "(self, deed)", ("books", "Book", "run"): "(self, deeds)",
+    ("books", "Book", "undo"): "(self)", ("books", "Book", "again"): "(self)",
+    ("books", "Book", "told"): "(self, day, *, known=None)", ("books", "Book", "readings"): "(self, day, *, known=None)",
+    ("books", "Book", "letters"): "(self)", ("books", "Book", "deeds"): "(self)", ("books", "Book", "today"): "(self)",
+    ("books", "Book", "changed"): "(self, day, *, known)",
+    ("books", "Book", "asked"): "(self, condition, day, *, known=None)",
 }
 
 
 def imported_by(path):
-    """The modules from which a file of the package imports."""
-    tree = ast.parse(path.read_text())
-    return [node.module for node in ast.walk(tree) if isinstance(node, ast.ImportFrom)]
+    """The modules of the package from which a file of it imports; of the library only what the rules let it."""
+    found = []
+    for node in ast.walk(ast.parse(path.read_text())):
+        if isinstance(node, ast.ImportFrom):
+            names = [name.name for name in node.names]
+            if not set(names) <= set(LIBRARY.get(node.module, ())):
+                found.append(node.module)
+    return found
 
 
 class Rules(unittest.TestCase):
@@ -103,4 +143,23 @@ class Rules(unittest.TestCase):
     def test_parameters(self):
         for (file, name), parameters in PARAMETERS.items():
             function = getattr(importlib.import_module(f"dealtongue.{file}"), name)
-            self.assertEqual(list(inspect.signature(function).parameters), parameters)
+            self.assertEqual(str(inspect.signature(function)), parameters)
+        for (file, name, method), parameters in METHOD_PARAMETERS.items():
+            found = getattr(importlib.import_module(f"dealtongue.{file}"), name)
+            self.assertEqual(str(inspect.signature(getattr(found, method))), parameters)
+
+    def test_no_name_is_a_method_and_an_attribute(self):
+        methods, attributes = set(), set()
+        for path in FILES:
+            for node in ast.walk(ast.parse(path.read_text())):
+                if isinstance(node, ast.ClassDef):
+                    methods.update(part.name for part in node.body if isinstance(part, ast.FunctionDef))
+                if isinstance(node, ast.Attribute) and isinstance(node.ctx, ast.Store):
+                    attributes.add(node.attr)
+        self.assertFalse(methods & attributes)
+
+    def test_statements_that_are_not_used(self):
+        kinds = (ast.Global, ast.GeneratorExp, ast.Yield, ast.YieldFrom, ast.Try, ast.With, ast.AsyncFunctionDef)
+        for path in FILES:
+            for node in ast.walk(ast.parse(path.read_text())):
+                self.assertNotIsInstance(node, kinds, path.name)
