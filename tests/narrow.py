@@ -85,3 +85,28 @@ class Narrow:
             return ("not", self.condition(0, depth - 1))
         word = "all" if draw < 0.93 else "any"
         return (word, *[self.condition(0, depth - 1) for _ in range(some.randint(2, 3))])
+
+
+class Contested(Narrow):
+    """Makes agreements in which what one party sends often keeps another one from its duties, or lets it."""
+
+    def __init__(self, seed, last=5):
+        super().__init__(seed, last, 0.7, 1)
+        self.names = WORDS
+        self.senders = {name: party for name, party in zip(WORDS, self.parties + (self.random.choice(self.parties),))}
+        self.duties = DUTIES
+
+    def agreement(self):
+        parties, rest, words, clauses = super().agreement()
+        return (parties, rest, tuple(word[:3] + (self.leave(word),) for word in words), clauses)
+
+    def leave(self, word):
+        """A condition of a word that others can bring about, or keep from being so."""
+        some = self.random
+        others = [name for name in self.names if self.senders[name] != word[1]]
+        draw = some.random()
+        if draw < 0.25:
+            return None
+        plain = some.choice([("had", some.choice(others)), ("owes", some.choice(self.duties)),
+                             ("broken", some.choice(self.duties)), ("before", some.randint(1, self.last))])
+        return plain if draw < 0.5 else ("not", plain)
