@@ -42,7 +42,7 @@ def first_parting(one, other):
         step = search.take()
         (place, other_place), real_day, _, _, _ = search.steps[step]
         seen, other_seen = one.sight(place, real_day), other.sight(other_place, real_day)
-        if not groups.join(seen.key, other_seen.key):
+        if not groups.unite(seen.key, other_seen.key):
             continue
         if seen.face != other_seen.face:
             return ("apart", real_day, search.conduct_to(step))

@@ -1,6 +1,6 @@
 """Why it is so: chains of causes, conditions weighed, and why letters are idle."""
 
-from dealtongue.courses import Course
+from dealtongue.courses import course_to
 from dealtongue.deals import ENDED
 from dealtongue.errors import NoHappening, NoLetterThere
 from dealtongue.kinds import is_number, is_number_within
@@ -14,7 +14,7 @@ from dealtongue.truths import weigh
 def chain(agreement, letters, day, happening):
     """Lists (happening, day, clause) from a happening on, each the cause of the one ahead."""
     refuse_to_reckon(agreement, letters, day)
-    standing = course_behind(agreement, letters, day).standing
+    standing = course_to([(0, agreement)], letters, day).standing
     if not has_happened(happening, standing):
         raise NoHappening("something that happened by then is wanted")
     return links_from(happening, standing)
@@ -23,7 +23,7 @@ def chain(agreement, letters, day, happening):
 def is_chain(agreement, letters, day, thing):
     """Tells whether a thing is the chain of its first happening."""
     refuse_to_reckon(agreement, letters, day)
-    standing = course_behind(agreement, letters, day).standing
+    standing = course_to([(0, agreement)], letters, day).standing
     if not isinstance(thing, list) or not thing or not isinstance(thing[0], tuple) or not thing[0]:
         return False
     happening = thing[0][0]
@@ -36,7 +36,7 @@ def is_chain(agreement, letters, day, thing):
 def weighed(agreement, letters, day, condition):
     """Tells how a condition holds behind a day: (word, truth, parts)."""
     refuse_to_reckon(agreement, letters, day)
-    course = course_behind(agreement, letters, day)
+    course = course_to([(0, agreement)], letters, day)
     refuse_no_condition(condition, course.deal)
     return weigh(condition, course.standing)
 
@@ -47,7 +47,7 @@ def idle_why(agreement, letters, day, said, turn):
     found = letter_of(letters, said, turn)
     if found is None or said > day:
         raise NoLetterThere(said, turn)
-    course = course_behind(agreement, letters, said - 1)
+    course = course_to([(0, agreement)], letters, said - 1)
     course.run_ahead_of(found)
     against = first_against(course.deal, course.standing, found)
     if against is None:
@@ -56,13 +56,6 @@ def idle_why(agreement, letters, day, said, turn):
         _, _, condition = course.deal.words[found[3]]
         return ("while", weigh(condition, course.standing))
     return (against,)
-
-
-def course_behind(agreement, letters, day):
-    """Tells the course of an agreement and letters behind the evening of a day."""
-    course = Course([(0, agreement)], letters)
-    course.run_to(day)
-    return course
 
 
 def letter_of(letters, said, turn):
@@ -85,7 +78,7 @@ def has_happened(thing, standing):
     if len(thing) != 3 or not is_number(thing[2]):
         return False
     if kind == "counts":
-        return is_number(thing[1]) and letter_of(standing.counted, thing[1], thing[2]) is not None
+        return letter_of(standing.counted, thing[1], thing[2]) is not None
     found = thing_of(standing, thing[1], thing[2])
     if found is None:
         return False

@@ -1,6 +1,6 @@
 """Where coins went: the ledger, and what each party was paid less what it paid."""
 
-from dealtongue.courses import Course
+from dealtongue.courses import course_to
 from dealtongue.payments import PUT_BY
 from dealtongue.refusals import refuse_to_reckon
 
@@ -25,6 +25,4 @@ def balances(agreement, letters, day):
 
 def rows_by(agreement, letters, day):
     """Lists the rows of the ledger by the evening of a day."""
-    course = Course([(0, agreement)], letters)
-    course.run_to(day)
-    return list(course.standing.rows)
+    return list(course_to([(0, agreement)], letters, day).standing.rows)

@@ -18,7 +18,7 @@ class Course:
     def __init__(self, versions, letters):
         self.texts = [(first, Deal(agreement)) for first, agreement in versions]
         self.by_day = letters_by_day(letters)
-        self.standing = Standing([])
+        self.standing = Standing()
         self.over = -1
         self.place = 0
         self.deal = None
@@ -37,7 +37,7 @@ class Course:
         elder = self.deal
         self.place += 1
         self.take_text()
-        self.standing.day = self.over + 1
+        self.standing.turn_to(self.over + 1)
         free_what_is_left_out(elder, self.deal, self.standing)
 
     def go_on_from(self, standing):
@@ -53,14 +53,12 @@ class Course:
 
     def pass_quiet_days(self, last):
         """Passes quiet days, to the last one and while one text is in force; tells on how many some fee grew."""
-        if self.next_text_day(last) == self.over + 1:
-            self.take_next_text()
         passed = min(self.next_busy_day(last), self.next_text_day(last)) - 1
         quiet = passed - self.over
         if quiet == 0:
             return 0
         self.over = passed
-        self.standing.day = passed
+        self.standing.turn_to(passed)
         return grow_fees(self.deal, self.standing, late_things(self.standing), quiet)
 
     def run_next_day(self):
@@ -73,7 +71,7 @@ class Course:
 
     def run_ahead_of(self, letter):
         """Runs the morning of a letter's day, the next one, and the letters that are said on it ahead of this one."""
-        self.standing.day = letter[0]
+        self.standing.turn_to(letter[0])
         run_morning(self.deal, self.standing)
         for other in self.by_day[letter[0]]:
             if other[1] < letter[1]:
@@ -107,15 +105,19 @@ class Course:
 
     def days_of_steps(self):
         """Lists the next days of the steps of which something could come as things stand."""
-        # A condition may turn by the day alone, but only on named days, to which steps are looked for at the furthest.
-        today = self.standing.day
-        self.standing.day = self.over + 1
+        # A condition that turns by the day alone does so on a named day, which is busy: steps behind it don't matter yet.
         found = []
         for trigger in self.deal.morning_triggers:
             if trigger[0] == "every" and does_something(self.deal, self.standing, trigger):
                 found.append(next_step(trigger, self.over))
-        self.standing.day = today
         return found
+
+
+def course_to(versions, letters, day):
+    """Tells the course of versions and letters behind the evening of a day."""
+    course = Course(versions, letters)
+    course.run_to(day)
+    return course
 
 
 def days_in_text(deal):

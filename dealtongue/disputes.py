@@ -3,7 +3,7 @@
 from dealtongue.days import refuse_no_day
 from dealtongue.errors import NoLetterThere, NoOpen
 from dealtongue.kinds import is_number, is_tuple_of
-from dealtongue.reckoner import refuse_no_condition, state_behind
+from dealtongue.reckoner import state_behind
 from dealtongue.refusals import refuse_no_letters
 from dealtongue.versions import refuse_no_versions
 
@@ -64,7 +64,6 @@ def choices_of(things):
 
 def answer_of(told, condition):
     """Tells whether a condition holds in all of the readings, in none, or in some."""
-    refuse_no_condition(condition, told[0][1].deal)
     truths = [state.holds(condition) for _, state in told]
     if all(truths):
         return "yes"

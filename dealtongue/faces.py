@@ -69,7 +69,7 @@ class Groups:
             last = self.leads[last]
         return last
 
-    def join(self, one, other):
+    def unite(self, one, other):
         """Joins the groups of two keys; tells whether they were two."""
         first, second = self.last_of(one), self.last_of(other)
         self.leads[first] = second

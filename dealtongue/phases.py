@@ -94,7 +94,7 @@ class Phase:
 
 def run_day(deal, standing, day, letters):
     """Runs all phases of a day, with the letters said on it."""
-    standing.day = day
+    standing.turn_to(day)
     run_morning(deal, standing)
     for letter in letters:
         run_letter(deal, standing, letter)

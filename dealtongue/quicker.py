@@ -40,7 +40,8 @@ def turnings(agreement, letters, day):
 
 def turns_next(course):
     """Runs the next day of a course; tells whether it turns something."""
-    ahead = words_that_may(course.deal, course.standing)
-    course.standing.turned = False
+    standing = course.standing
+    ahead = words_that_may(course.deal, standing)
+    standing.turned = False
     course.run_next_day()
-    return course.standing.turned or words_that_may(course.deal, course.standing) != ahead
+    return standing.turned or words_that_may(course.deal, standing) != ahead

@@ -1,8 +1,8 @@
-"""The plain reckoner: what an agreement and letters make, day by day."""
+"""The plain reckoner: what an agreement and letters make of each day, told as States."""
 
 from dealtongue.agreements import are_there
 from dealtongue.conditions import is_condition, named_by_condition
-from dealtongue.courses import Course
+from dealtongue.courses import course_to
 from dealtongue.errors import NoCondition
 from dealtongue.refusals import refuse_to_reckon
 from dealtongue.truths import is_so, words_that_may
@@ -98,9 +98,7 @@ def reckoned(agreement, letters, day):
 
 def state_behind(versions, letters, day):
     """Tells the State of versions behind the evening of a day."""
-    course = Course(versions, letters)
-    course.run_to(day)
-    return State(course)
+    return State(course_to(versions, letters, day))
 
 
 def keys_in_order(growths, places):

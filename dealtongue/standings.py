@@ -74,7 +74,7 @@ class Growth:
 class Standing:
     """How things stand: things by the names of their duties, what fees have grown by (fee, duty, number)."""
 
-    def __init__(self, duties):
+    def __init__(self):
         self.day = 0
         self.ended = None
         # The happening by which it ended, and the name of the clause.
@@ -94,7 +94,6 @@ class Standing:
         self.rows = []
         # Set by all that is told of a State, but for the day.
         self.turned = False
-        self.make_room(duties)
 
     def make_room(self, duties):
         """Makes room for the things of duties of these names."""
@@ -104,7 +103,7 @@ class Standing:
 
     def copied(self):
         """Tells another standing that is just like this one, and shares nothing with it that changes."""
-        other = Standing([])
+        other = Standing()
         other.day = self.day
         other.ended = self.ended
         other.ended_by = self.ended_by
@@ -121,6 +120,10 @@ class Standing:
         other.purses = {pair: self.purses[pair] for pair in self.purses}
         other.rows = list(self.rows)
         return other
+
+    def turn_to(self, day):
+        """Makes a day the one that it is."""
+        self.day = day
 
     def hear(self, letter):
         """Takes note of a letter that counts."""

@@ -101,7 +101,7 @@ def first_found(moments, wanted, last):
                 elif many[name] > many[key] + 1:
                     many[name] = many[key] + 1
                     queue.append(name)
-        found, ahead = None, (now, many)
+        ahead = (now, many)
         now, many = {}, {}
         for key in sorted(ahead[0], key=lambda name: ahead[1][name]):
             ends = [moment.evening() for moment in ahead[0][key]]

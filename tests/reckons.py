@@ -1,11 +1,16 @@
 """What the tests of the reckoners share: agreements told by rows, and both reckoners asked at once."""
 
 import unittest
+from unittest import mock
 
+from dealtongue.agreements import first_wrong
+from dealtongue.errors import NoAgreement, NoDay, NoLetters
+from dealtongue.phases import run_day
 from dealtongue.quicker import quick
 from dealtongue.reckoner import reckoned
 from dealtongue.texts import read_agreement
 from tests.oracle import told_of
+from tests.samples import NO_DAYS, odd_things
 
 HEAD = (
     "parties ann bob cat",
@@ -36,6 +41,39 @@ def said(*told):
         day, _, turn = when.partition(".")
         found.append((int(day), int(turn or 1), senders[word], word, int(coins[0]) if coins else 0))
     return found
+
+
+def days_gone_through(function, agreement, letters, last):
+    """Lists the days all of whose phases a reckoner runs; tells them and the State."""
+    found = []
+
+    def run(whole, standing, day, letters_then):
+        found.append(day)
+        run_day(whole, standing, day, letters_then)
+
+    with mock.patch("dealtongue.courses.run_day", run):
+        state = function(agreement, letters, last)
+    return found, state
+
+
+class Refuses(unittest.TestCase):
+    """Asks of a function of an agreement, letters and a last day in which order it refuses what is none."""
+
+    def refuses_in_order(self, function, whole):
+        for thing in odd_things():
+            for letters, day in (([], 9), ((), None), ([], -1)):
+                with self.assertRaises(NoAgreement) as caught:
+                    function(thing, letters, day)
+                self.assertEqual(caught.exception.place, first_wrong(thing))
+        wrong = [thing for thing in odd_things() if thing != []]
+        for thing in wrong + [(), tuple(said("3 ask")), said("3 ask", "3 note")]:
+            for day in (9, None, -1, 3001):
+                with self.assertRaises(NoLetters):
+                    function(whole, thing, day)
+        for day in NO_DAYS:
+            for letters in ([], said("3 ask")):
+                with self.assertRaises(NoDay):
+                    function(whole, letters, day)
 
 
 class Reckons(unittest.TestCase):

@@ -87,3 +87,7 @@ def odd_things():
         nested(10, lambda thing: [thing]), nested(10, lambda thing: (thing,)), nested(10, lambda thing: {"k": thing}),
         ("duty",), ("free", []), ([], "name"), ({}, "name", 1, 2), (("duty",), 1, 2, 3, 4),
     ]
+
+
+# What is no day, of all kinds.
+NO_DAYS = [thing for thing in odd_things() if thing != 1000000001] + [-1, 3001, BIG, "8", (8,), [8], True, None]

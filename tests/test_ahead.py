@@ -147,6 +147,34 @@ class MayCome(unittest.TestCase):
         self.comes(both, ("all", ("broken", "give"), ("not", ("broken", "back"))), 4, 1)
         self.comes(both, ("all", ("broken", "back"), ("not", ("broken", "give"))), 4, 1)
 
+    def test_two_on_one_day(self):
+        """Two notes bring two things that are due on one day, of which one ask does one."""
+        whole = plain(GIVE.format("3 days", "letter note"))
+        once = worded(whole, ask=("owes", "give"), note=("not", ("had", "ask")))
+        self.comes(once, ("all", ("had", "ask"), ("owes", "give")), 0, 3)
+        self.comes(once, ("all", ("had", "ask"), ("broken", "give")), 3, 3)
+        self.comes(worded(whole, ask=("owes", "give"), note=("not", ("had", "note"))),
+                   ("all", ("had", "ask"), ("not", ("owes", "give"))), 0, 2)
+        self.never(worded(whole, ask=("owes", "give"), note=("not", ("had", "note"))),
+                   ("all", ("had", "ask"), ("owes", "give")))
+
+    def test_once_for_each_happening(self):
+        """A thing done brings one, and so does the end, which comes once."""
+        whole = plain(GIVE.format("2 days", "day 1"), "duty back : bob must send note to ann within 3 days after done give")
+        self.never(worded(whole, note=("owes", "back")), ("all", ("had", "note"), ("owes", "back")))
+        self.comes(worded(whole, note=("owes", "back")), ("all", ("had", "note"), ("not", ("owes", "back"))), 1, 2)
+        whole = plain(GIVE.format("2 days", "day 1"), "duty back : bob must send note to ann within 3 days after broken give")
+        self.never(worded(whole, note=("owes", "back")), ("all", ("had", "note"), ("owes", "back")))
+        ended = plain(GIVE.format("3 days", "ended"), "end over : after letter note", "end more : after letter tell")
+        self.never(worded(ended, ask=("ended",)), ("all", ("had", "ask"), ("owes", "give")))
+        # A second end would free it and bring it anew.
+        self.never(worded(ended, note=("before", 1), ask=("before", 0)),
+                   ("all", ("had", "note"), ("not", ("broken", "give")), ("not", ("before", 4))))
+
+    def test_brought_in_the_first_morning(self):
+        for holidays, due in (((), 1), ((1,), 2), ((1, 2, 3), 4), ((0,), 1), ((2,), 1)):
+            self.comes(plain_rested(((), holidays), GIVE.format("1 work", "day 0")), ("broken", "give"), due, 0)
+
     def test_days_go_on_as_if_each_were_one(self):
         """What takes many rounds is told all the same, and what never comes is told as never."""
         whole = plain(GIVE.format("3 days", "every 4 from 0"),

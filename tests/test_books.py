@@ -15,8 +15,7 @@ from dealtongue.versions import reckoned_by
 from tests.makers import made_versions
 from tests.oracle import told_days_by, told_of
 from tests.reckons import deal, said
-from tests.samples import BIG, odd_things
-from tests.test_state import NO_DAYS
+from tests.samples import BIG, NO_DAYS, odd_things
 
 GIVE = "duty give : ann must send ask to bob within 2 days after day 3"
 ONE = deal(GIVE)

@@ -2,14 +2,12 @@
 
 import unittest
 
-from dealtongue.agreements import first_wrong
 from dealtongue.causes import chain, idle_why, is_chain, weighed
-from dealtongue.errors import NoAgreement, NoCondition, NoDay, NoHappening, NoLetters, NoLetterThere
+from dealtongue.errors import NoCondition, NoHappening, NoLetterThere
 from tests.makers import made
 from tests.oracle import Oracle
-from tests.reckons import deal, said
+from tests.reckons import Refuses, deal, said
 from tests.samples import BIG, odd_things
-from tests.test_state import NO_DAYS
 
 GIVE = "duty give : ann must send ask to bob within 2 days after "
 PAY = "duty settle : ann must pay 9 coins to bob within 2 days after "
@@ -173,6 +171,15 @@ class NoHappenings(unittest.TestCase):
             self.assertIs(is_chain(whole, letters, 9, [(thing, 3, None)]), False)
         for thing in (("day", 9), ("day", 1), ("counts", 2, 1), ("done", "give", 1), ("broken", "settle", 1)):
             self.assertEqual(chain(whole, letters, 9, thing)[0][0], thing)
+
+    def test_other_words_of_what_became_of_a_thing(self):
+        whole = deal(GIVE + "day 1", PAY + "day 1", "free spare : settle after day 2")
+        letters = said("2 ask")
+        for kind in ("open", "late", "day", "counts", "ended", "free", "do", "Done", "", None, 1):
+            for duty in ("give", "settle"):
+                with self.assertRaises(NoHappening):
+                    chain(whole, letters, 9, (kind, duty, 1))
+        self.assertEqual(len(chain(whole, letters, 9, ("freed", "settle", 1))), 2)
 
     def test_truths_that_equal_numbers_of_what_happened(self):
         whole = deal("duty give : ann must send ask to bob within 2 days after day 0")
@@ -349,25 +356,11 @@ class IdleWhy(unittest.TestCase):
         self.assertGreater(min(seen.values()), 10)
 
 
-class Refused(unittest.TestCase):
-    def functions(self):
-        return [lambda *asked: chain(*asked, None), lambda *asked: is_chain(*asked, None),
-                lambda *asked: weighed(*asked, None), lambda *asked: idle_why(*asked, None, None)]
-
+class Refused(Refuses):
     def test_in_this_order(self):
-        for function in self.functions():
-            for thing in odd_things():
-                for letters, day in (([], 9), ((), None)):
-                    with self.assertRaises(NoAgreement) as caught:
-                        function(thing, letters, day)
-                    self.assertEqual(caught.exception.place, first_wrong(thing))
-                if thing != []:
-                    for day in (9, None):
-                        with self.assertRaises(NoLetters):
-                            function(WHOLE, thing, day)
-            for day in NO_DAYS:
-                with self.assertRaises(NoDay):
-                    function(WHOLE, [], day)
+        for function in (lambda *asked: chain(*asked, None), lambda *asked: is_chain(*asked, None),
+                         lambda *asked: weighed(*asked, None), lambda *asked: idle_why(*asked, None, None)):
+            self.refuses_in_order(function, WHOLE)
 
     def test_what_is_told_is_the_askers_own(self):
         told = chain(WHOLE, [], 9, ("brought", "more", 1))

@@ -2,15 +2,11 @@
 
 import unittest
 
-from dealtongue.agreements import first_wrong
 from dealtongue.coins import balances, ledger
-from dealtongue.errors import NoAgreement, NoDay, NoLetters
 from dealtongue.reckoner import reckoned
 from tests.makers import made
 from tests.oracle import Oracle
-from tests.reckons import deal, said
-from tests.samples import odd_things
-from tests.test_state import NO_DAYS
+from tests.reckons import Refuses, deal, said
 
 PUT_BY = ("put by",)
 PAY = "duty settle : ann must pay 9 coins to bob within 2 days after "
@@ -156,22 +152,10 @@ class Balances(unittest.TestCase):
             self.assertEqual(sum(expected.values()), 0)
 
 
-class Refused(unittest.TestCase):
+class Refused(Refuses):
     def test_in_this_order(self):
-        whole = deal(PAY + "day 3")
         for function in (ledger, balances):
-            for odd in odd_things():
-                for letters, day in (([], 9), ((), None)):
-                    with self.assertRaises(NoAgreement) as caught:
-                        function(odd, letters, day)
-                    self.assertEqual(caught.exception.place, first_wrong(odd))
-                if odd != []:
-                    for day in (9, None):
-                        with self.assertRaises(NoLetters):
-                            function(whole, odd, day)
-            for day in NO_DAYS:
-                with self.assertRaises(NoDay):
-                    function(whole, said("4 cash 9"), day)
+            self.refuses_in_order(function, deal(PAY + "day 3"))
 
     def test_what_is_told_is_the_askers_own(self):
         whole = deal(PAY + "day 3")

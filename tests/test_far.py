@@ -2,13 +2,11 @@
 
 import random
 import unittest
-from unittest import mock
 
-from dealtongue.phases import run_day
 from dealtongue.quicker import quick, quick_on, turnings
 from dealtongue.reckoner import reckoned
 from tests.plain import made_plain, plainly
-from tests.reckons import deal, said
+from tests.reckons import days_gone_through, deal, said
 
 NAMES = "abcdef"
 SIX = (
@@ -78,15 +76,7 @@ class Far(unittest.TestCase):
 class BusyDays(unittest.TestCase):
     def days(self, agreement, letters, last):
         """Tells the days that reckoned goes through."""
-        found = []
-
-        def run(whole, standing, day, letters_then):
-            found.append(day)
-            run_day(whole, standing, day, letters_then)
-
-        with mock.patch("dealtongue.courses.run_day", run):
-            reckoned(agreement, letters, last)
-        return found
+        return days_gone_through(reckoned, agreement, letters, last)[0]
 
     def test_six_duties_by_weeks(self):
         self.assertEqual(self.days(SIX, [], 2942), [5, 7, 14, 49, 56])

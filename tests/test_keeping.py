@@ -10,8 +10,7 @@ from dealtongue.reckoner import reckoned
 from tests.conducts import Play, start
 from tests.looking import COINS, GIVE, NARROW, WIDE, plain, plain_rested, worded
 from tests.narrow import Contested, Narrow
-from tests.samples import odd_things
-from tests.test_state import NO_DAYS
+from tests.samples import NO_DAYS, odd_things
 
 # ann has to send ask, which counts only where bob lets it.
 LEAVE = worded(plain(GIVE.format("2 days", "day 3")), ask=("had", "note"))
@@ -118,6 +117,23 @@ class Fate(unittest.TestCase):
         self.assertEqual(fate(LEAVE, "ann", letters=letters, day=3), 5)
         self.assertEqual(fate(LEAVE, "ann", letters=letters + [(2, 2, "bob", "note", 1)], day=3), 5)
         self.assertIsNone(fate(LEAVE, "ann", letters=letters + [(2, 2, "bob", "note", 0)], day=3))
+
+    def test_what_evenings_ahead_brought(self):
+        """By the days on which they were: what is due by working days, and what was brought before a day."""
+        rows = [GIVE.format("2 days", "day 1"), "duty more : ann must send tell to bob within {} after broken give"]
+        whole = plain_rested(((4, 5), ()), rows[0], rows[1].format("2 work"))
+        self.assertEqual(fate(worded(whole, tell=("ended",)), "ann", day=4), 7)
+        whole = plain_rested(((5,), (6,)), rows[0].replace("day 1", "day 2"), rows[1].format("2 work"))
+        self.assertEqual(fate(worded(whole, tell=("ended",)), "ann", day=6), 8)
+        for last, lost in ((3, None), (4, 5), (5, 5)):
+            whole = plain(rows[0], rows[1].format("2 days") + f" while before {last}")
+            self.assertEqual(fate(worded(whole, tell=("ended",)), "ann", day=4), lost)
+
+    def test_letters_of_days_ahead_count_by_their_days(self):
+        for day, word, lost in ((0, ("before", 1), None), (1, ("before", 1), 5), (1, ("before", 2), None),
+                                (0, ("not", ("before", 1)), 5), (1, ("not", ("before", 1)), None)):
+            whole = worded(LEAVE, note=word)
+            self.assertEqual(fate(whole, "ann", letters=said(f"{day} note"), day=3), lost)
 
     def test_letters_left_out(self):
         self.assertEqual(fate(LEAVE, "ann", letters=None, day=2), 5)

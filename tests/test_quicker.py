@@ -1,18 +1,14 @@
 """Promise 14: the quick reckoner tells what the plain one tells; on which days something turns."""
 
 import unittest
-from unittest import mock
 
-from dealtongue.agreements import first_wrong
 from dealtongue.errors import NoAgreement, NoDay, NoLetters
-from dealtongue.phases import run_day
 from dealtongue.quicker import quick, quick_on, turnings
 from dealtongue.reckoner import State, reckoned
 from tests.makers import made
 from tests.oracle import Oracle, told_days, told_of
-from tests.reckons import Reckons, deal, rested, said
-from tests.samples import odd_things
-from tests.test_state import NO_DAYS, WHOLE
+from tests.reckons import Refuses, days_gone_through, deal, rested, said
+from tests.test_state import WHOLE
 
 TURNING = ("things", "broken", "fees", "may", "had", "put_by", "ended")
 
@@ -105,14 +101,7 @@ class BusyDays(unittest.TestCase):
 
     def days(self, agreement, letters, last):
         """Tells the days that quick goes through."""
-        found = []
-
-        def run(deal, standing, day, said_then):
-            found.append(day)
-            run_day(deal, standing, day, said_then)
-
-        with mock.patch("dealtongue.courses.run_day", run):
-            state = quick(agreement, letters, last)
+        found, state = days_gone_through(quick, agreement, letters, last)
         self.assertEqual(told_of(state), told_of(reckoned(agreement, letters, last)))
         return found
 
@@ -303,26 +292,11 @@ class Turnings(unittest.TestCase):
         self.assertTrue(all(type(day) is int for day in turnings(whole, [], 50)))
 
 
-class Refused(Reckons):
-    def functions(self):
-        state = quick(WHOLE, [], 3)
-        return [quick, turnings, lambda agreement, letters, day: quick_on(agreement, letters, state, day)]
-
+class Refused(Refuses):
     def test_in_this_order(self):
-        wrong = [thing for thing in odd_things() if thing != []]
-        for function in self.functions():
-            for thing in odd_things():
-                for letters, day in (([], 9), ((), None), ([], -1)):
-                    with self.assertRaises(NoAgreement) as caught:
-                        function(thing, letters, day)
-                    self.assertEqual(caught.exception.place, first_wrong(thing))
-            for thing in wrong + [(), tuple(said("3 ask")), said("3 ask", "3 note")]:
-                for day in (9, None, -1, 3001):
-                    with self.assertRaises(NoLetters):
-                        function(WHOLE, thing, day)
-            for day in NO_DAYS:
-                with self.assertRaises(NoDay):
-                    function(WHOLE, [], day)
+        state = quick(WHOLE, [], 3)
+        for function in (quick, turnings, lambda agreement, letters, day: quick_on(agreement, letters, state, day)):
+            self.refuses_in_order(function, WHOLE)
 
     def test_a_last_day_that_is_not_later(self):
         for first in (0, 1, 7, 3000):

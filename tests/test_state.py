@@ -9,7 +9,7 @@ from dealtongue.reckoner import State, reckoned
 from tests.makers import made
 from tests.oracle import told_of
 from tests.reckons import Reckons, deal, said
-from tests.samples import BIG, agreement, odd_things
+from tests.samples import NO_DAYS, agreement, odd_things
 
 # Places go against the order of names.
 WHOLE = deal(
@@ -35,7 +35,6 @@ AT_8 = {
     "had": ["ask", "back", "cash"],
     "put_by": {("bob", "ann"): 3},
 }
-NO_DAYS = [thing for thing in odd_things() if thing != 1000000001] + [-1, 3001, BIG, "8", (8,), [8], True, None]
 
 
 def forms(told):

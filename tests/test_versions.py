@@ -11,8 +11,7 @@ from dealtongue.versions import reached_by, reckoned_by
 from tests.makers import made, made_versions
 from tests.oracle import told_days_by, told_of
 from tests.reckons import deal, rested, said
-from tests.samples import odd_things
-from tests.test_state import NO_DAYS
+from tests.samples import NO_DAYS, odd_things
 
 GIVE = "duty give : ann must send ask to bob within 9 days after day 3"
 PAY = "duty settle : ann must pay 9 coins to bob within 2 days after day 3"
