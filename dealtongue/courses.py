@@ -105,7 +105,7 @@ class Course:
 
     def days_of_steps(self):
         """Lists the next days of the steps of which something could come as things stand."""
-        # A condition that turns by the day alone does so on a named day, which is busy: steps behind it don't matter yet.
+        # A condition turns by the day alone on named days only, which are busy: steps behind them don't matter yet.
         found = []
         for trigger in self.deal.morning_triggers:
             if trigger[0] == "every" and does_something(self.deal, self.standing, trigger):
